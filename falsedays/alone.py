@@ -1,0 +1,72 @@
+"""What each one alone can tell of the others by the board and the own note."""
+
+from falsedays.errors import NoBoard, NoNote, NoNumber
+from falsedays.kinds import fits, is_between, is_tuple_of
+from falsedays.neighbours import are_two_true, crossing
+from falsedays.offices import is_board, is_true
+from falsedays.readers import reader, ways_of
+from falsedays.walks import steps_on_board
+
+
+def left(office, the_board, place, note):
+    """The number of the rows of notes of the others that a person with this note leaves on a board."""
+    if not is_board(office, the_board):
+        raise NoBoard()
+    marks, last = the_board
+    if not is_between(place, 0, len(marks) - 1):
+        raise NoNumber()
+    if not fits(note, office.sizes[:2]):
+        raise NoNote()
+    moves, closings = reader(office)
+    choices = steps_on_board(office, marks)
+    choices[place] = [note + (marks[place],)]
+    counts = counted_walks(ways_of(moves), choices)
+    return sum([count for number, count in counts.items() if last in closings[number]])
+
+
+def counted_walks(ways, choices):
+    """For each number at which walks by one step of each choice end, how many do."""
+    counts = {0: 1}
+    for steps in choices:
+        further = {}
+        for number, count in counts.items():
+            for step in steps:
+                if step in ways[number]:
+                    goal = ways[number][step]
+                    further[goal] = further.get(goal, 0) + count
+        counts = further
+    return counts
+
+
+def learning(office):
+    """Two true days of one board and a place whose note cannot be brought from the one to the other, or None."""
+    crossed = crossing(office, 1)
+    if crossed is None:
+        return None
+    one, other, high = crossed
+    # With no step of the one the day is true, with those ahead of high it is false:
+    # so between two of these numbers that are neighbours it turns false.
+    low = 0
+    while high - low > 1:
+        middle = (low + high) // 2
+        if is_true(office, crossed_at(one, other, middle)):
+            low = middle
+        else:
+            high = middle
+    return one, crossed_at(one, other, low), low
+
+
+def crossed_at(one, other, place):
+    """The day with the steps of one ahead of a place, and those of another from there on."""
+    return one[0][:place] + other[0][place:], other[1]
+
+
+def is_learning(office, thing):
+    """Whether a thing is such as learning gives."""
+    if not is_tuple_of(thing, 3):
+        return False
+    one, other, place = thing
+    if not are_two_true(office, one, other) or not is_between(place, 0, len(one[0]) - 1):
+        return False
+    steps, last = other
+    return not is_true(office, (steps[:place] + one[0][place:place + 1] + steps[place + 1:], last))
