@@ -1,4 +1,7 @@
-"""The package keeps to the plain part of the language that it is written in."""
+"""The package keeps to the plain part of the language that it is written in.
+
+This bars more than it must: what the package does not need so far may be let in when it does.
+"""
 
 import ast
 import builtins

@@ -112,7 +112,8 @@ class EnoughTest(unittest.TestCase):
 
     def test_too_many(self):
         calls = [enough, crossing, paper, lambda office, k: is_paper(office, k, None),
-                 lambda office, k: least_k(office), lambda office, k: round_of(office), lambda office, k: is_round(office, None)]
+                 lambda office, k: least_k(office), lambda office, k: round_of(office),
+                 lambda office, k: is_round(office, None)]
         for call in calls:
             for k in (1, 200):
                 with self.assertRaises(TooMany) as caught:
