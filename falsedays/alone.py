@@ -1,10 +1,10 @@
 """What each one alone can tell of the others by the board and the own note."""
 
+from falsedays.counting import closing_walks
 from falsedays.errors import NoBoard, NoNote, NoNumber
 from falsedays.kinds import fits, is_between, is_tuple_of
 from falsedays.neighbours import are_two_true, crossing
 from falsedays.offices import is_board, is_true
-from falsedays.readers import reader, ways_of
 from falsedays.walks import steps_on_board
 
 
@@ -17,25 +17,9 @@ def left(office, the_board, place, note):
         raise NoNumber()
     if not fits(note, office.sizes[:2]):
         raise NoNote()
-    moves, closings = reader(office)
     choices = steps_on_board(office, marks)
     choices[place] = [note + (marks[place],)]
-    counts = counted_walks(ways_of(moves), choices)
-    return sum([count for number, count in counts.items() if last in closings[number]])
-
-
-def counted_walks(ways, choices):
-    """For each number at which walks by one step of each choice end, how many do."""
-    counts = {0: 1}
-    for steps in choices:
-        further = {}
-        for number, count in counts.items():
-            for step in steps:
-                if step in ways[number]:
-                    goal = ways[number][step]
-                    further[goal] = further.get(goal, 0) + count
-        counts = further
-    return counts
+    return closing_walks(office, choices, last)
 
 
 def learning(office):

@@ -2,7 +2,7 @@
 
 from falsedays.errors import BadOffice, NoDay, NoNumber, TooMany
 from falsedays.kinds import all_fit, is_between, is_lot_below, is_rising_fit, is_tuple_of
-from falsedays.walks import BEGIN, behind, closing_with, lasts_of, table, ways_on
+from falsedays.walks import BEGIN, behind, closing_ever, closing_with, lasts_of, table, ways_on
 
 MOST_SIZE = 4
 MOST_STANDINGS = 20
@@ -28,6 +28,15 @@ class Office:
     def __eq__(self, other):
         return (isinstance(other, Office) and self.sizes == other.sizes
                 and self.moves == other.moves and self.closings == other.closings)
+
+
+def made_office(sizes, moves, closings):
+    """An office that comes of other ones: so its sizes are not bounded."""
+    office = Office((1, 1, 1), ((),), ((),))
+    office.sizes = sizes
+    office.moves = moves
+    office.closings = closings
+    return office
 
 
 def are_sizes(thing):
@@ -115,11 +124,7 @@ def one_more(rows, begun, good):
 
 def closing_in(office, many):
     """For each number up to many the set of the standings that may close behind so many steps."""
-    good = 0
-    for standing, marks in enumerate(office.closings):
-        if marks:
-            good = good | (1 << standing)
-    goods = [good]
+    goods = [closing_ever(office)]
     for _ in range(many):
         good = 0
         for standing, moves in enumerate(office.moves):

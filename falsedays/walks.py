@@ -29,6 +29,19 @@ def table(office):
     return rows
 
 
+def live_standings(office):
+    """The set of the standings from which steps, perhaps none, lead to one that may close."""
+    rows = table(office)
+    live = 0
+    further = closing_ever(office)
+    while further != live:
+        live = further
+        for standing, row in enumerate(rows):
+            if any([goals & live for goals in row.values()]):
+                further = further | (1 << standing)
+    return live
+
+
 def after(rows, group, step):
     """The set to which moves with a step lead from a set."""
     goals = 0
@@ -76,6 +89,15 @@ def closing_with(office, last):
     found = 0
     for standing, marks in enumerate(office.closings):
         if last in marks:
+            found = found | (1 << standing)
+    return found
+
+
+def closing_ever(office):
+    """The set of the standings that may close with some last mark."""
+    found = 0
+    for standing, marks in enumerate(office.closings):
+        if marks:
             found = found | (1 << standing)
     return found
 

@@ -103,7 +103,9 @@ def odd_things():
 
 
 def twisted(thing):
-    """A nested tuple of integers with one spot changed at a time, in many ways."""
+    """A nested tuple of integers and None with one spot changed at a time, in many ways."""
+    if thing is None:
+        return [0, -1, 1, False, "", ()]
     if isinstance(thing, tuple):
         out = [list(thing), thing + (0,), thing + ((),), None]
         if thing:
@@ -277,3 +279,43 @@ def slow_is_paper(office, k, thing):
                for other_step, other_goal in ways[b].items() if step[2] == other_step[2]):
             return False
     return True
+
+
+def slow_reader_sets(office, most=10 ** 6):
+    """All sets of standings, none of them empty, that steps lead to, at most so many, by frozensets."""
+    sets = [frozenset([0])]
+    met = {sets[0]}
+    for here in sets:
+        for step in {move[:3] for at in here for move in office.moves[at]}:
+            goal = frozenset(move[3] for at in here for move in office.moves[at] if move[:3] == step)
+            if goal not in met and len(sets) < most:
+                met.add(goal)
+                sets.append(goal)
+    return sets
+
+
+def slow_is_sure(office):
+    for here in slow_reader_sets(office):
+        steps = {move[:3] for at in here for move in office.moves[at]}
+        if sorted(step[0] for step in steps) != list(range(office.sizes[0])):
+            return False
+        if len({mark for at in here for mark in office.closings[at]}) != 1:
+            return False
+    return True
+
+
+def all_boards(office, many):
+    return [(marks, last) for marks in product(range(office.sizes[2]), repeat=many) for last in range(office.sizes[2])]
+
+
+def slow_on_board(true, the_board):
+    """Of some true days those of a board."""
+    return [day for day in true if slow_board(day) == (list(the_board[0]), the_board[1])]
+
+
+# No boards of LOAF.
+NO_BOARDS = [((), 1), ((1,), 0), ((-1,), 0), ((0,), -1), ((True,), 0), ((0,), False), ([0], 0), [(0,), 0], ((0,),),
+             ((0,), 0, 0), (0, 0), (((0,),), 0), (("0",), 0), ((0, None), 0)]
+# No days of LOAF.
+NO_DAYS = [((), 1), ((), False), ([], 0), [(), 0], ((),), (((2, 0, 0),), 0), (((0, 0),), 0), (((0, 0, 1),), 0),
+           (([0, 0, 0],), 0), (((True, 0, 0),), 0), ((0, 0, 0), 0)]

@@ -8,12 +8,10 @@ from falsedays.errors import NoBoard, NoNote, NoNumber, TooMany
 from falsedays.neighbours import enough
 from falsedays.offices import Office
 from falsedays.tales import unseen
-from tests.helpers import (FORKED, HUNG_UP, LOAF, NEVER, NOBODY, SIXTY, SIXTY_ONE, all_days, clock_office, echo_office,
-                           odd_things, slow_board, slow_is_learning, slow_true_days, small_offices, twisted,
-                           two_ends_office)
+from tests.helpers import (FORKED, HUNG_UP, LOAF, NEVER, NO_BOARDS, NOBODY, SIXTY, SIXTY_ONE, all_days,
+                           clock_office, echo_office, odd_things, slow_board, slow_is_learning, slow_true_days,
+                           small_offices, twisted, two_ends_office)
 
-NO_BOARDS = [((), 1), ((1,), 0), ((-1,), 0), ((0,), -1), ((True,), 0), ((0,), False), ([0], 0), [(0,), 0], ((0,),),
-             ((0,), 0, 0), (0, 0), (((0,),), 0), (("0",), 0), ((0, None), 0)]
 NO_NOTES = [(2, 0), (0, 2), (-1, 0), (0, -1), (True, 0), (0, False), [0, 0], (0,), (0, 0, 0), 0, (0, "0"), ((0, 0),)]
 
 

@@ -4,11 +4,19 @@ import copy
 import unittest
 
 from falsedays.alone import is_learning, learning, left
+from falsedays.chains import chained, same_days
+from falsedays.claims import convicting, heights, is_heights, least_lies, surely_lying
+from falsedays.colours import coloured, good_colours
+from falsedays.counting import day_at, day_number, many_days, many_with
 from falsedays.errors import FalseError
 from falsedays.facts import holds, is_fact, known
+from falsedays.keeping import is_sure, keeps, most_kept, served, unseen_days
 from falsedays.neighbours import (crossing, enough, is_crossing, is_paper, is_round, least_k, paper, round_of)
 from falsedays.offices import Office, board, is_day, is_true, notes, some_true, true_days
+from falsedays.proving import (can_prove, forging, indiscreet, is_forging, is_indiscreet, settled, shown_places)
 from falsedays.readers import reader, stand
+from falsedays.reading import read_day, read_office
+from falsedays.rules import read_rule
 from falsedays.tales import is_tale, least_tale, seeing, tale, unseen
 from tests.helpers import (FORKED, HUNG_UP, LOAF, SIXTY_ONE, clock_office, echo_office, nested, odd_things,
                            slow_is_crossing, slow_is_round, slow_is_true, small_offices, wide_office)
@@ -16,12 +24,26 @@ from tests.helpers import (FORKED, HUNG_UP, LOAF, SIXTY_ONE, clock_office, echo_
 DAY = (((1, 0, 0), (1, 0, 0)), 0)
 FACT = (((0, 0, 1, 0), (1, 1, 1, 1)), (1,))
 STEPS = ((0, 1, 0), (1, 0, 0))
+TRUE_DAY = (STEPS, 0)
+BOARD = ((0, 0), 0)
+CLAIMS = ((1, 0), (1, 0))
 
 CALLS = [(is_day, (DAY,)), (is_true, (DAY,)), (notes, (DAY,)), (board, (DAY,)), (true_days, (3,)), (some_true, (9,)),
          (reader, ()), (stand, (STEPS,)), (tale, (DAY, (0,))), (least_tale, (DAY, (0,))), (is_tale, (DAY, (0,), DAY)),
          (unseen, (DAY, 1)), (seeing, (DAY,)), (is_fact, (FACT,)), (holds, (FACT, DAY)), (known, (FACT, DAY, ())),
          (enough, (1,)), (least_k, ()), (crossing, (2,)), (is_crossing, (1, DAY)), (round_of, ()), (is_round, (DAY,)),
-         (paper, (1,)), (is_paper, (1, DAY)), (left, (((0, 0), 0), 0, (1, 0))), (learning, ()), (is_learning, (DAY,))]
+         (paper, (1,)), (is_paper, (1, DAY)), (left, (BOARD, 0, (1, 0))), (learning, ()), (is_learning, (DAY,)),
+         (forging, ()), (is_forging, (DAY,)), (can_prove, (TRUE_DAY, 0)), (shown_places, (TRUE_DAY,)),
+         (settled, (BOARD,)), (indiscreet, ()), (is_indiscreet, (DAY,)), (is_sure, ()), (served, ((0, 1, 1),)),
+         (keeps, ((5, 0), DAY)), (most_kept, ((5, 0), 1, 3)), (unseen_days, (1, 3)), (coloured, ((0,),)),
+         (good_colours, (1,)), (least_lies, (BOARD, CLAIMS)), (heights, (BOARD, CLAIMS)),
+         (is_heights, (BOARD, CLAIMS, 1, ((0, None), (1, 0), (2, 1)))), (surely_lying, (BOARD, CLAIMS)),
+         (convicting, (BOARD, CLAIMS)), (chained, (HUNG_UP,)), (same_days, (LOAF,)), (many_days, (9, 100)),
+         (day_at, (5, 7)), (day_number, (TRUE_DAY,)), (many_with, (BOARD,)), (read_day, ("step 1 0 0\nlast 0\n",))]
+# Those that always return a list; here with arguments for which it is not empty.
+LISTS = [(true_days, (2,)), (seeing, (DAY,)), (unseen_days, (1, 2)), (convicting, (BOARD, CLAIMS)),
+         (settled, (((0,), 0),)), (good_colours, (200,))]
+RIGHT_OF_HUNG_UP = [(settled, (((1, 0), 0),)), (good_colours, (1,))]
 
 
 class GeneralTest(unittest.TestCase):
@@ -32,18 +54,28 @@ class GeneralTest(unittest.TestCase):
             first = function(office, *arguments)
             again = function(office, *arguments)
             self.assertEqual(first, again, function)
-            self.assertEqual(repr(arguments), repr(before))
+            self.assertEqual(arguments, before)
             self.assertTrue(office == LOAF)
             self.assertEqual(sorted(vars(office)), ["closings", "moves", "sizes"])
 
     def test_lists_are_new(self):
-        for function, arguments in ((true_days, (2,)), (seeing, (DAY,))):
-            first = function(LOAF, *arguments)
+        calls = [(LOAF,) + call for call in LISTS] + [(HUNG_UP,) + call for call in RIGHT_OF_HUNG_UP]
+        for office, function, arguments in calls:
+            first = function(office, *arguments)
             self.assertIsInstance(first, list)
-            self.assertGreater(len(first), 0)
             kept = list(first)
             first.append(None)
-            self.assertEqual(function(LOAF, *arguments), kept)
+            self.assertEqual(function(office, *arguments), kept)
+            first.clear()
+            self.assertEqual(function(office, *arguments), kept)
+        self.assertTrue(all(function(HUNG_UP, *arguments) for function, arguments in RIGHT_OF_HUNG_UP))
+
+    def test_read_offices_are_equal(self):
+        for function, text in ((read_office, "office 1 1 1\nat 0\nmove 0 0 0 0\ncloses 0\n"),
+                               (read_rule, "office 1 1 1\neach\nclose\nend\n")):
+            self.assertTrue(function(text) == function(text))
+            self.assertIsNot(function(text), function(text))
+            self.assertTrue(function(text) == Office((1, 1, 1), (((0, 0, 0, 0),),), ((0,),)))
 
     def test_handed_in_lists_stay(self):
         sizes, moves, steps = [1, 1, 1], [[(0, 0, 0, 0)]], [[0, 0, 0]]
@@ -54,7 +86,7 @@ class GeneralTest(unittest.TestCase):
 
     def test_flags(self):
         for function, arguments in CALLS:
-            if function.__name__.startswith("is_") or function in (unseen, holds, enough):
+            if function.__name__.startswith("is_") or function in (unseen, holds, enough, can_prove):
                 self.assertIsInstance(function(LOAF, *arguments), bool)
 
     def test_judges_of_anything(self):
@@ -68,6 +100,10 @@ class GeneralTest(unittest.TestCase):
                 self.assertIs(is_paper(office, 1, thing), False)
                 self.assertIs(is_paper(office, 200, thing), False)
                 self.assertIs(is_learning(office, thing), False)
+                self.assertIs(is_forging(office, thing), False)
+                self.assertIs(is_indiscreet(office, thing), False)
+                self.assertIs(is_heights(office, ((0, 0), 0), ((0, 0), (0, 0)), 0, thing), False)
+                self.assertIs(is_heights(office, ((), 0), (), 0, thing), False)
 
     def test_great_numbers(self):
         for number in (10 ** 39, 10 ** 40 - 1, -(10 ** 40 - 1)):
@@ -76,8 +112,17 @@ class GeneralTest(unittest.TestCase):
             self.assertIs(is_fact(LOAF, (((0, 0, 0, number),), ())), False)
             self.assertIs(is_paper(HUNG_UP, 1, ((((0, number),),), ())), False)
             for call in (lambda k: true_days(LOAF, k), lambda k: some_true(LOAF, k), lambda k: unseen(LOAF, DAY, k),
-                         lambda k: enough(LOAF, k), lambda k: left(LOAF, ((0,), 0), k, (0, 0))):
+                         lambda k: enough(LOAF, k), lambda k: left(LOAF, ((0,), 0), k, (0, 0)),
+                         lambda k: can_prove(LOAF, TRUE_DAY, k), lambda k: keeps(LOAF, (0, k), DAY),
+                         lambda k: most_kept(LOAF, (0, 0), k, 2), lambda k: most_kept(LOAF, (0, 0), 1, k),
+                         lambda k: unseen_days(LOAF, k, 2), lambda k: unseen_days(LOAF, 2, k),
+                         lambda k: good_colours(LOAF, k), lambda k: coloured(HUNG_UP, (0, k)),
+                         lambda k: served(LOAF, (0, k)), lambda k: many_days(LOAF, k, 7),
+                         lambda k: many_days(LOAF, 7, k), lambda k: day_at(LOAF, k, 0),
+                         lambda k: day_at(LOAF, 3, k), lambda k: settled(LOAF, ((k,), 0)),
+                         lambda k: least_lies(LOAF, BOARD, ((0, 0), (0, k))), lambda k: many_with(LOAF, ((), k))):
                 self.assertRaises(FalseError, call, number)
+            self.assertIs(is_heights(LOAF, BOARD, CLAIMS, number, ((0, None), (1, 0), (2, 1))), number < 0)
 
     def test_offices_beyond_the_bounds_of_the_constructor(self):
         # 25 standings in a row, six slips, and at the last one a seventh answer.
@@ -112,7 +157,9 @@ class GeneralTest(unittest.TestCase):
             else:
                 self.assertIn(type(thing), (int, str, type(None)))
         for office in [LOAF, FORKED, HUNG_UP, echo_office(2)] + small_offices(40, 36):
-            for thing in (reader(office), crossing(office, 1), round_of(office), paper(office, 2), learning(office),
+            for thing in (forging(office), indiscreet(office), heights(office, ((0, 0), 0), ((0, 0), (0, 0))),
+                          least_lies(office, ((0, 0), 0), ((0, 0), (0, 0))), tuple(unseen_days(office, 2, 2)),
+                          reader(office), crossing(office, 1), round_of(office), paper(office, 2), learning(office),
                           some_true(office, 3), known(office, (((0,) * 8,), ()), ((), 0), ())
                           if office.sizes == (2, 2, 2) else 0):
                 check(thing)
@@ -146,7 +193,11 @@ class GeneralTest(unittest.TestCase):
                                     (is_tale, (day, (), day)), (unseen, (day, 1)), (seeing, (day,)),
                                     (is_fact, (None,)), (holds, ((((0,) * 64,), ()), day)),
                                     (known, ((((0,) * 64,), ()), day, ())), (is_crossing, (1, (day, day, 1))),
-                                    (is_learning, ((day, day, 0),))]:
+                                    (is_learning, ((day, day, 0),)), (forging, ()), (is_forging, ((day, day, 0),)),
+                                    (can_prove, (day, 0)), (shown_places, (day,)), (settled, (((0,), 0),)),
+                                    (indiscreet, ()), (is_indiscreet, ((day, 0),)), (unseen_days, (4, 1)),
+                                    (coloured, ((0, 1, 2, 3),)), (chained, (SIXTY_ONE,)),
+                                    (read_day, ("last 0\n",))]:
             function(SIXTY_ONE, *arguments)
 
 

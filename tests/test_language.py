@@ -21,11 +21,17 @@ BARRED = set("""register mro elements open input law version_info with_traceback
 Generic Protocol ABC namedtuple NamedTuple global eval exec exit gc dir vars globals locals compile""".split())
 STATEMENTS = (ast.Global, ast.AsyncFunctionDef, ast.Import, ast.Yield, ast.YieldFrom, ast.Await, ast.GeneratorExp,
               ast.Lambda, ast.Try, ast.With, ast.Match, ast.NamedExpr, ast.Starred, ast.Set, ast.Nonlocal)
+PLAIN = (ast.Constant, ast.Tuple, ast.List, ast.Dict, ast.Name, ast.expr_context, ast.BinOp, ast.operator, ast.UnaryOp,
+         ast.unaryop)
 INTERFACE = {
     "offices": "Office is_day is_true notes board true_days some_true", "readers": "reader stand",
     "tales": "tale least_tale is_tale unseen seeing", "facts": "is_fact holds known",
     "neighbours": "enough is_crossing is_round is_paper least_k crossing round_of paper",
-    "alone": "left learning is_learning"}
+    "alone": "left learning is_learning",
+    "proving": "forging is_forging can_prove shown_places settled indiscreet is_indiscreet",
+    "keeping": "is_sure served keeps most_kept unseen_days", "colours": "coloured good_colours",
+    "claims": "least_lies heights is_heights surely_lying convicting", "chains": "chained same_days",
+    "counting": "many_days day_at day_number many_with", "rules": "read_rule", "reading": "read_office read_day"}
 
 
 def package_files():
@@ -69,7 +75,11 @@ class LanguageTest(unittest.TestCase):
                     self.assertIsInstance(node.value.value, str)
                 elif isinstance(node, ast.Assign):
                     self.assertEqual(len(node.targets), 1)
-                    ast.literal_eval(node.value)
+                    # What stands there is made of plain values and of functions that are defined above it.
+                    above = {part.name for part in tree_of(name).body[:at] if isinstance(part, ast.FunctionDef)}
+                    for part in ast.walk(node.value):
+                        self.assertIsInstance(part, PLAIN, name)
+                        self.assertTrue(not isinstance(part, ast.Name) or part.id in above, name)
                 else:
                     self.assertIsInstance(node, (ast.ImportFrom, ast.FunctionDef, ast.ClassDef), name)
 
@@ -113,15 +123,18 @@ class LanguageTest(unittest.TestCase):
                     self.assertIn(type(node.value), (int, str, bool, type(None)))
                     self.assertFalse(isinstance(node.value, str) and ("__" in node.value or chr(37) in node.value))
                 if isinstance(node, ast.BinOp):
-                    self.assertNotIsInstance(node.op, (ast.Div, ast.Pow, ast.MatMult), name)
+                    self.assertNotIsInstance(node.op, (ast.Div, ast.MatMult), name)
+                    if isinstance(node.op, ast.Pow):
+                        self.assertTrue(isinstance(node.right, ast.Constant) and 0 <= node.right.value <= 64, name)
                 if isinstance(node, ast.Compare) and any(isinstance(op, (ast.Is, ast.IsNot)) for op in node.ops):
                     self.assertIsInstance(node.comparators[0], ast.Constant)
 
     def test_names(self):
+        own = {node.name for name in package_files() for part in tree_of(name).body if isinstance(part, ast.ClassDef)
+               for node in part.body if isinstance(node, ast.FunctionDef)}
         for name in package_files():
             tree = tree_of(name)
             taken = imported(tree) | {node.name for node in tree.body if isinstance(node, ast.ClassDef)}
-            own = {node.name for node in ast.walk(tree) if isinstance(node, ast.FunctionDef)}
             for node in ast.walk(tree):
                 if isinstance(node, ast.Name) and isinstance(node.ctx, ast.Load) and hasattr(builtins, node.id):
                     self.assertIn(node.id, BUILTINS, name)
@@ -136,7 +149,7 @@ class LanguageTest(unittest.TestCase):
                 if isinstance(node, ast.Attribute):
                     self.assertNotIn(node.attr, BARRED)
                 if isinstance(node, ast.Call) and isinstance(node.func, ast.Attribute):
-                    self.assertIn(node.func.attr, METHODS | own | {"joint"}, name)
+                    self.assertIn(node.func.attr, METHODS | own, name)
                 if isinstance(node, ast.Call) and isinstance(node.func, ast.Name) and node.func.id in BUILTINS:
                     self.assertEqual(node.keywords, [], name)
 

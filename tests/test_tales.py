@@ -7,15 +7,13 @@ from itertools import combinations
 from falsedays.errors import NoDay, NoLot, NoNumber, TooMany
 from falsedays.offices import Office, is_true
 from falsedays.tales import is_tale, least_tale, seeing, tale, unseen
-from tests.helpers import (FORKED, HUNG_UP, LOAF, NEVER, NOBODY, SIXTY_ONE, all_days, echo_office, odd_things,
+from tests.helpers import (FORKED, HUNG_UP, LOAF, NEVER, NO_DAYS, NOBODY, SIXTY_ONE, all_days, echo_office, odd_things,
                            random_office, slow_board, slow_is_true, slow_tales, slow_true_days, slow_unseen,
                            small_offices, twisted)
 
 BOTH = (((1, 0, 0), (1, 0, 0)), 0)
 NO_LOTS = [(2,), (-1,), (0, 0), (1, 0), (0, 1, 2), [0], [], (True,), (False,), (0, True), ("0",), (None,), ((0,),),
            10 ** 39, 0, 1, range(1), "", (10 ** 39,)]
-NO_DAYS = [((), 1), ((), False), ([], 0), [(), 0], ((),), (((2, 0, 0),), 0), (((0, 0),), 0), (((0, 0, 1),), 0),
-           (([0, 0, 0],), 0), (((True, 0, 0),), 0), ((0, 0, 0), 0)]
 
 
 def some_days(rng, office, many):
