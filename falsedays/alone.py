@@ -2,8 +2,8 @@
 
 from falsedays.counting import closing_walks
 from falsedays.errors import NoBoard, NoNote, NoNumber
-from falsedays.kinds import fits, is_between, is_tuple_of
-from falsedays.neighbours import are_two_true, crossing
+from falsedays.kinds import fits, is_between
+from falsedays.neighbours import are_two_with_place, crossing
 from falsedays.offices import is_board, is_true
 from falsedays.walks import steps_on_board
 
@@ -47,10 +47,8 @@ def crossed_at(one, other, place):
 
 def is_learning(office, thing):
     """Whether a thing is such as learning gives."""
-    if not is_tuple_of(thing, 3):
+    if not are_two_with_place(office, thing):
         return False
     one, other, place = thing
-    if not are_two_true(office, one, other) or not is_between(place, 0, len(one[0]) - 1):
-        return False
     steps, last = other
     return not is_true(office, (steps[:place] + one[0][place:place + 1] + steps[place + 1:], last))

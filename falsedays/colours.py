@@ -2,7 +2,7 @@
 
 from falsedays.errors import NoColours
 from falsedays.kinds import is_between, is_tuple_of
-from falsedays.neighbours import check_k, enough
+from falsedays.neighbours import enough
 from falsedays.offices import made_office
 
 
@@ -39,5 +39,4 @@ def all_colours(marks):
 
 def good_colours(office, k):
     """The ascending list of all colours with which k is enough."""
-    check_k(k)
     return [colours for colours in all_colours(office.sizes[2]) if enough(coloured(office, colours), k)]

@@ -74,6 +74,14 @@ def are_two_true(office, one, other):
     return is_true(office, one) and is_true(office, other) and board(office, one) == board(office, other)
 
 
+def are_two_with_place(office, thing):
+    """Whether a thing is a triple of two true days of one board and a place of them."""
+    if not is_tuple_of(thing, 3):
+        return False
+    one, other, place = thing
+    return are_two_true(office, one, other) and is_between(place, 0, len(one[0]) - 1)
+
+
 def round_of(office):
     """A round, or None."""
     pairs = Pairs(Lookup(office))

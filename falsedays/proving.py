@@ -4,7 +4,7 @@ from falsedays.boards import BoardSets
 from falsedays.errors import NoBoard, NoDay, NoNumber
 from falsedays.forgeries import first_forgery
 from falsedays.kinds import is_between, is_tuple_of
-from falsedays.neighbours import are_two_true
+from falsedays.neighbours import are_two_with_place
 from falsedays.offices import board, is_board, is_true
 from falsedays.settling import first_settled
 
@@ -22,11 +22,9 @@ def forging(office):
 
 def is_forging(office, thing):
     """Whether a thing is such as forging gives."""
-    if not is_tuple_of(thing, 3):
+    if not are_two_with_place(office, thing):
         return False
     one, other, place = thing
-    if not are_two_true(office, one, other) or not is_between(place, 0, len(one[0]) - 1):
-        return False
     slip, answer, _ = one[0][place]
     other_slip, other_answer, _ = other[0][place]
     return answer == other_answer and slip != other_slip

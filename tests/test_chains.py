@@ -317,6 +317,17 @@ class SameDaysTest(unittest.TestCase):
         other = Office((2, 1, 2), (((0, 0, 0, 1), (1, 0, 0, 2)), (), ()), ((), (0, 1), ()))
         self.assertEqual(same_days(one, other), (((1, 0, 0),), 0))
 
+    def test_many_marks(self):
+        lasts = [(), (1,), (8, 9), (1, 8), (0, 1, 8, 9, 15)]
+        offices = [wide_office((1, 1, 16), ((),), (row,)) for row in lasts]
+        for row, one in zip(lasts, offices):
+            for further, other in zip(lasts, offices):
+                found = set(row) ^ set(further)
+                self.assertEqual(same_days(one, other), ((), min(found)) if found else None)
+        for marks in ((8, 1), (9, 8, 15)):
+            one = wide_office((1, 1, 16), (tuple((0, 0, mark, 0) for mark in sorted(marks)),), ((0,),))
+            self.assertEqual(same_days(one, wide_office((1, 1, 16), ((),), ((0,),))), (((0, 0, min(marks)),), 0))
+
     def test_wrong(self):
         for other in (HUNG_UP, NOBODY, SIXTY_ONE, Office((1, 2, 2), ((),), ((),)), Office((2, 1, 2), ((),), ((),))):
             self.assertRaises(OtherSizes, same_days, LOAF, other)

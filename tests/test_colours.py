@@ -68,6 +68,15 @@ class ColouredTest(unittest.TestCase):
                 # It is such as could be constructed.
                 self.assertTrue(Office(other.sizes, other.moves, other.closings) == other)
 
+    def test_many_marks(self):
+        office = wide_office((1, 1, 18), (((0, 0, 1, 0), (0, 0, 8, 0), (0, 0, 17, 0)),), ((1, 8, 17),))
+        self.assertTrue(coloured(office, tuple(range(18))) == office)
+        colours = (0, 0) + tuple(range(1, 17))
+        self.assertEqual(coloured(office, colours).closings, ((0, 7, 16),))
+        self.assertEqual(coloured(office, colours).moves, (((0, 0, 0, 0), (0, 0, 7, 0), (0, 0, 16, 0)),))
+        colours = tuple(range(9)) + (0,) * 8 + (1,)
+        self.assertEqual(coloured(office, colours).closings, ((1, 8),))
+
     def test_wrong(self):
         for thing in odd_things() + [(0,), (0, 1, 2), (1, 0), (1, 1), (0, 2), (0, -1), [0, 1], (0, True), (False, 1),
                                      ("0", 1), 0, "01", (0, (1,)), range(2), (0, 10 ** 39)]:

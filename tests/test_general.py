@@ -80,7 +80,11 @@ class GeneralTest(unittest.TestCase):
     def test_handed_in_lists_stay(self):
         sizes, moves, steps = [1, 1, 1], [[(0, 0, 0, 0)]], [[0, 0, 0]]
         for call in (lambda: Office(sizes, moves, [[0]]), lambda: stand(LOAF, steps), lambda: tale(LOAF, DAY, steps),
-                     lambda: left(LOAF, (steps, 0), 0, (0, 0))):
+                     lambda: left(LOAF, (steps, 0), 0, (0, 0)), lambda: settled(LOAF, (steps, 0)),
+                     lambda: served(LOAF, sizes), lambda: keeps(LOAF, sizes, DAY), lambda: coloured(LOAF, sizes),
+                     lambda: least_lies(LOAF, BOARD, steps), lambda: convicting(LOAF, BOARD, steps),
+                     lambda: many_with(LOAF, (sizes, 0)), lambda: day_number(LOAF, (steps, 0)),
+                     lambda: read_rule(sizes), lambda: read_office(moves), lambda: read_day(LOAF, steps)):
             self.assertRaises(FalseError, call)
         self.assertEqual((sizes, moves, steps), ([1, 1, 1], [[(0, 0, 0, 0)]], [[0, 0, 0]]))
 

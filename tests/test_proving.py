@@ -292,6 +292,9 @@ class IndiscreetTest(unittest.TestCase):
         self.assertIs(is_indiscreet(HUNG_UP, ((((1, 0, 1), (0, 0, 0)), 1), 1)), False)
         self.assertIs(is_indiscreet(HUNG_UP, ((((1, 0, 0), (0, 0, 0)), 0), 1)), False)
         self.assertIs(is_indiscreet(LOAF, ((((1, 0, 0), (1, 1, 0)), 0), 0)), False)
+        for place in (-1, 0, 1):
+            self.assertIs(is_indiscreet(HUNG_UP, (((), 0), place)), False)
+            self.assertIs(is_forging(LOAF, (((), 0), ((), 0), place)), False)
 
     def test_settled_by_what_comes_behind(self):
         # Only the mark of a later comer, or the last mark, tells the first slip.

@@ -2,8 +2,9 @@
 
 from tests.helpers import odd_things
 
-OTHER_WORDS = """-1 00 01 1 2 3 4 5 6 7 9 10 a aa cc zz 1_0 1.0 0x1 123456789 1234567890 999999999 1000000000 A
-abcdefgh abcdefghi put add tell hang if slip choose else or fi done each close end cell office at move closes step last""".split()
+OTHER_WORDS = """-1 00 01 1 2 3 4 5 6 7 9 10 a aa cc zz 1_0 1.0 0x1 123456789 1234567890 999999999 1000000000
+A abcdefgh abcdefghi put add tell hang if slip choose else or fi done each close end cell office at move closes step
+last""".split()
 OTHER_LINES = ["fi", "done", "else", "or", "choose", "each", "close", "end", "hang 0", "tell 0", "slip 0", "put a 0",
                "if a 0", "cell q 2", "office 1 1 1", "at 0", "at 1", "closes", "closes 0", "move 0 0 0 0", "last 0",
                "step 0 0 0"]
