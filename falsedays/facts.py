@@ -65,7 +65,7 @@ def told_tale(office, fact, day, lot, wanted):
     for state in range(len(moves)):
         if (state in yes) == wanted:
             goals = goals | (closing << (state * len(office.moves)))
-    steps = least_walk(joint_table(office, moves), told_choices(office, day, lot), goals)
+    steps = least_walk(joint_table(office, moves), told_choices(office, day[0], lot), goals)
     if steps is None:
         return None
     return steps, day[1]

@@ -3,7 +3,7 @@
 from falsedays.errors import NoNumber
 from falsedays.kinds import all_fit, is_between, is_tuple_of
 from falsedays.lookups import Lookup
-from falsedays.offices import board, is_true
+from falsedays.offices import board, is_mark, is_true
 from falsedays.pairs import Pairs, lead_to, level_of, stands_in, turn_before, way_to
 from falsedays.papers import has_levels, has_triples, levels_hold, triples_hold
 from falsedays.readers import DEAD, number_behind
@@ -110,7 +110,7 @@ def has_round_form(office, thing):
     if not is_tuple_of(thing, 7) or not all([all_fit(part, office.sizes) for part in thing[:6]]):
         return False
     one, other, turn, _, rest, other_rest, last = thing
-    return (is_between(last, 0, office.sizes[2] - 1) and len(turn) > 0
+    return (is_mark(office, last) and len(turn) > 0
             and marks_of(one) == marks_of(other) and marks_of(rest) == marks_of(other_rest))
 
 

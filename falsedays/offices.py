@@ -57,17 +57,21 @@ def are_closings(sizes, standings, thing):
     return is_tuple_of(thing, standings) and all([is_lot_below(row, sizes[2]) for row in thing])
 
 
+def is_mark(office, thing):
+    """Whether a thing is a mark of the office."""
+    return is_between(thing, 0, office.sizes[2] - 1)
+
+
 def is_day(office, thing):
     """Whether a thing is a day of the office."""
-    return is_tuple_of(thing, 2) and all_fit(thing[0], office.sizes) and is_between(thing[1], 0, office.sizes[2] - 1)
+    return is_tuple_of(thing, 2) and all_fit(thing[0], office.sizes) and is_mark(office, thing[1])
 
 
 def is_board(office, thing):
     """Whether a thing is a board of the office."""
-    marks = office.sizes[2]
     if not is_tuple_of(thing, 2) or not isinstance(thing[0], tuple):
         return False
-    return all([is_between(mark, 0, marks - 1) for mark in thing[0]]) and is_between(thing[1], 0, marks - 1)
+    return all([is_mark(office, mark) for mark in thing[0]]) and is_mark(office, thing[1])
 
 
 def notes(office, day):

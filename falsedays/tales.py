@@ -18,9 +18,8 @@ def check_lot(office, day, lot):
         raise NoLot()
 
 
-def told_choices(office, day, lot):
-    """For each place the steps that a tale may have there: the day's own at the places of the lot."""
-    steps, _ = day
+def told_choices(office, steps, lot):
+    """For each place the steps that a tale may have there: the told ones at the places of the lot."""
     choices = steps_on_board(office, [mark for _, _, mark in steps])
     for place in lot:
         choices[place] = [steps[place]]
@@ -30,7 +29,7 @@ def told_choices(office, day, lot):
 def least_tale(office, day, lot):
     """The least tale of a lot for a day, or None."""
     check_lot(office, day, lot)
-    steps = least_walk(table(office), told_choices(office, day, lot), closing_with(office, day[1]))
+    steps = least_walk(table(office), told_choices(office, day[0], lot), closing_with(office, day[1]))
     if steps is None:
         return None
     return steps, day[1]

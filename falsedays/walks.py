@@ -29,6 +29,17 @@ def table(office):
     return rows
 
 
+def mark_table(rows):
+    """For each standing of a table a dict from marks to the sets to which steps with them lead."""
+    found = []
+    for row in rows:
+        by_mark = {}
+        for step, goals in row.items():
+            by_mark[step[2]] = by_mark.get(step[2], 0) | goals
+        found.append(by_mark)
+    return found
+
+
 def live_standings(office):
     """The set of the standings from which steps, perhaps none, lead to one that may close."""
     rows = table(office)
@@ -73,6 +84,11 @@ def ways_on(rows, group):
         for step, goals in rows[standing].items():
             found[step] = found.get(step, 0) | goals
     return sorted(found.items())
+
+
+def steps_on(rows, group, goals):
+    """The ascending list of the steps that lead from a set to one of the goals."""
+    return [step for step, further in ways_on(rows, group) if further & goals]
 
 
 def leading(rows, steps, goals):

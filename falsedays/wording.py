@@ -1,4 +1,4 @@
-"""Lines of texts, and the numbers and names in them."""
+"""Lines of texts, and the numbers and names in them, read and written."""
 
 from falsedays.errors import BadText
 
@@ -51,3 +51,13 @@ def figure_in(word, low, high):
 def is_name(word):
     """Whether a word is a name."""
     return 1 <= len(word) <= MOST_LETTERS and all([sign in LETTERS for sign in word])
+
+
+def told_line(word, numbers):
+    """The line of a word and some numbers behind it."""
+    return " ".join([word] + [str(number) for number in numbers])
+
+
+def closed_lines(lines):
+    """The text of some lines, each closed by a line feed."""
+    return "".join([line + "\n" for line in lines])

@@ -3,7 +3,9 @@
 import random
 from itertools import product
 
-from falsedays.errors import BadText, NoDay
+from falsedays.desk import Desk
+from falsedays.errors import BadText, FalseError, NoDay
+from falsedays.live import Live
 from falsedays.offices import Office
 from falsedays.readers import reader
 
@@ -14,6 +16,11 @@ NEVER = Office((2, 1, 1), (((0, 0, 0, 0), (1, 0, 0, 0)),), ((),))
 # A move stands twice with unlike goals, so the reader comes to sets of two standings.
 FORKED = Office((2, 2, 2), (((0, 0, 0, 0), (0, 0, 0, 1), (1, 0, 1, 2)), ((0, 1, 1, 0), (1, 1, 0, 2)),
                             ((0, 0, 0, 1), (1, 1, 1, 0))), ((0,), (1,), (0, 1)))
+# Just 2000, and just 2001, false days of six people are unseen by each two neighbours.
+JUST_2000 = Office((3, 2, 1), (((0, 0, 0, 1), (1, 1, 0, 2), (2, 1, 0, 0)), ((0, 0, 0, 2), (1, 0, 0, 1), (2, 0, 0, 1)),
+                               ((0, 0, 0, 2), (1, 1, 0, 1), (2, 1, 0, 1))), ((0,),) * 3)
+JUST_2001 = Office((3, 2, 1), (((0, 0, 0, 2), (1, 0, 0, 1), (2, 1, 0, 2)), ((0, 1, 0, 1), (1, 1, 0, 2), (2, 0, 0, 1)),
+                               ((0, 0, 0, 1), (1, 1, 0, 1), (2, 0, 0, 0))), ((0,),) * 3)
 
 
 def wide_office(sizes, moves, closings):
@@ -66,6 +73,19 @@ SIXTY = fan_office(59)
 SIXTY_ONE = fan_office(60)
 
 
+def office_of_days(sizes, days):
+    """An office with just these true days: it keeps all steps so far, so it may have any number of standings."""
+    begins = sorted({steps[:many] for steps, _ in days for many in range(len(steps) + 1)} | {()},
+                    key=lambda steps: (len(steps), steps))
+    numbers = {steps: at for at, steps in enumerate(begins)}
+    moves, closings = [[] for _ in begins], [[] for _ in begins]
+    for steps in begins[1:]:
+        moves[numbers[steps[:-1]]].append(steps[-1] + (numbers[steps],))
+    for steps, last in sorted(days):
+        closings[numbers[steps]].append(last)
+    return wide_office(sizes, tuple(map(tuple, moves)), tuple(map(tuple, closings)))
+
+
 def random_office(rng, sizes, standings, density=0.4):
     """An office of these sizes with moves and closings by chance."""
     moves = []
@@ -98,7 +118,7 @@ def odd_things():
             [()], [(0, 0)], {}, {0: 0}, range(2), slice(0, 1), Ellipsis, NotImplemented, object(), int, tuple, len,
             nested(0, 40), nested((), 39), nested({"a": None}, 38), ((), (), ()), (None,), (True,), ("0",), (b"",),
             (-1,), ((),), ([],), ({},), (0, None), ((0, 0), None), (((0, 0, 0),), "0"), memoryview(b"ab"), iter([0]),
-            (x for x in ()), {}.keys(), LOAF, (LOAF, LOAF), NoDay(), BadText(0), NoDay, Office, lambda: 0,
+            (x for x in ()), {}.keys(), LOAF, (LOAF, LOAF), Live(LOAF), (Desk(),), NoDay(), BadText(0), NoDay, Office, lambda: 0,
             tuple([None] * 9999)]
 
 
@@ -115,6 +135,14 @@ def twisted(thing):
             out += [thing[:at] + (other,) + thing[at + 1:] for other in twisted(part)]
         return out
     return [thing + 1, thing - 1, str(thing), thing == 1, None, (thing,), 10 ** 39]
+
+
+def outcome(function, *arguments):
+    """What a call gives, or its error."""
+    try:
+        return function(*arguments)
+    except FalseError as error:
+        return type(error), tuple(vars(error).values())
 
 
 def is_whole(thing):

@@ -8,9 +8,11 @@ from falsedays.chains import chained, same_days
 from falsedays.claims import convicting, heights, is_heights, least_lies, surely_lying
 from falsedays.colours import coloured, good_colours
 from falsedays.counting import day_at, day_number, many_days, many_with
+from falsedays.desk import Desk
 from falsedays.errors import FalseError
 from falsedays.facts import holds, is_fact, known
 from falsedays.keeping import is_sure, keeps, most_kept, served, unseen_days
+from falsedays.live import Live
 from falsedays.neighbours import (crossing, enough, is_crossing, is_paper, is_round, least_k, paper, round_of)
 from falsedays.offices import Office, board, is_day, is_true, notes, some_true, true_days
 from falsedays.proving import (can_prove, forging, indiscreet, is_forging, is_indiscreet, settled, shown_places)
@@ -18,6 +20,8 @@ from falsedays.readers import reader, stand
 from falsedays.reading import read_day, read_office
 from falsedays.rules import read_rule
 from falsedays.tales import is_tale, least_tale, seeing, tale, unseen
+from falsedays.texts import day_text, office_text
+from falsedays.webs import exchanges, is_tree, is_web, shape_false, web_false
 from tests.helpers import (FORKED, HUNG_UP, LOAF, SIXTY_ONE, clock_office, echo_office, nested, odd_things,
                            slow_is_crossing, slow_is_round, slow_is_true, small_offices, wide_office)
 
@@ -39,7 +43,9 @@ CALLS = [(is_day, (DAY,)), (is_true, (DAY,)), (notes, (DAY,)), (board, (DAY,)), 
          (good_colours, (1,)), (least_lies, (BOARD, CLAIMS)), (heights, (BOARD, CLAIMS)),
          (is_heights, (BOARD, CLAIMS, 1, ((0, None), (1, 0), (2, 1)))), (surely_lying, (BOARD, CLAIMS)),
          (convicting, (BOARD, CLAIMS)), (chained, (HUNG_UP,)), (same_days, (LOAF,)), (many_days, (9, 100)),
-         (day_at, (5, 7)), (day_number, (TRUE_DAY,)), (many_with, (BOARD,)), (read_day, ("step 1 0 0\nlast 0\n",))]
+         (day_at, (5, 7)), (day_number, (TRUE_DAY,)), (many_with, (BOARD,)), (read_day, ("step 1 0 0\nlast 0\n",)),
+         (office_text, ()), (web_false, (2, ((0,), (1,)))), (exchanges, (2, ((0,), (1,)))), (shape_false, (2, (0,))),
+         (Live, ())]
 # Those that always return a list; here with arguments for which it is not empty.
 LISTS = [(true_days, (2,)), (seeing, (DAY,)), (unseen_days, (1, 2)), (convicting, (BOARD, CLAIMS)),
          (settled, (((0,), 0),)), (good_colours, (200,))]
@@ -53,7 +59,8 @@ class GeneralTest(unittest.TestCase):
             before = copy.deepcopy(arguments)
             first = function(office, *arguments)
             again = function(office, *arguments)
-            self.assertEqual(first, again, function)
+            if function is not Live:
+                self.assertEqual(first, again, function)
             self.assertEqual(arguments, before)
             self.assertTrue(office == LOAF)
             self.assertEqual(sorted(vars(office)), ["closings", "moves", "sizes"])
@@ -70,6 +77,29 @@ class GeneralTest(unittest.TestCase):
             self.assertEqual(function(office, *arguments), kept)
         self.assertTrue(all(function(HUNG_UP, *arguments) for function, arguments in RIGHT_OF_HUNG_UP))
 
+    def test_equal_calls_without_an_office(self):
+        web = ((0, 1), (1, 2))
+        for function, arguments in ((is_web, (3, web)), (is_tree, (3, web)), (day_text, (DAY,))):
+            before = copy.deepcopy(arguments)
+            self.assertEqual(function(*arguments), function(*arguments))
+            self.assertEqual(arguments, before)
+
+    def test_lives_and_desks_of_equal_calls(self):
+        lives, desks = [Live(LOAF), Live(Office(LOAF.sizes, LOAF.moves, LOAF.closings))], [Desk(), Desk()]
+        for live in lives:
+            live.step(1, 0, 0)
+            live.step(0, 0, 0)
+        for name, arguments in (("so_far", ()), ("wrong", ()), ("ways_on", ()), ("sees_now", ((0,),)), ("depth", ()),
+                                ("closed", (0,))):
+            told = [getattr(live, name)(*arguments) for live in lives + lives]
+            self.assertEqual(told, told[:1] * 4)
+        for line in (f"office a {office_text(LOAF)}".replace("\n", "|"), "names", "least a", "many a 7", "undo"):
+            told = [desk.tell(line) for desk in desks]
+            self.assertEqual(told, told[:1] * 2)
+        self.assertFalse(lives[0] == LOAF)
+        self.assertFalse(LOAF == lives[0])
+        self.assertFalse(desks[0] == lives[0])
+
     def test_read_offices_are_equal(self):
         for function, text in ((read_office, "office 1 1 1\nat 0\nmove 0 0 0 0\ncloses 0\n"),
                                (read_rule, "office 1 1 1\neach\nclose\nend\n")):
@@ -84,14 +114,21 @@ class GeneralTest(unittest.TestCase):
                      lambda: served(LOAF, sizes), lambda: keeps(LOAF, sizes, DAY), lambda: coloured(LOAF, sizes),
                      lambda: least_lies(LOAF, BOARD, steps), lambda: convicting(LOAF, BOARD, steps),
                      lambda: many_with(LOAF, (sizes, 0)), lambda: day_number(LOAF, (steps, 0)),
-                     lambda: read_rule(sizes), lambda: read_office(moves), lambda: read_day(LOAF, steps)):
+                     lambda: read_rule(sizes), lambda: read_office(moves), lambda: read_day(LOAF, steps),
+                     lambda: web_false(LOAF, 2, steps), lambda: exchanges(LOAF, 2, moves), lambda: Desk().tell(steps),
+                     lambda: shape_false(LOAF, 2, sizes), lambda: Live(LOAF).step(sizes, moves, steps),
+                     lambda: Live(LOAF).sees_now(sizes), lambda: Live(LOAF).closed(steps)):
             self.assertRaises(FalseError, call)
         self.assertEqual((sizes, moves, steps), ([1, 1, 1], [[(0, 0, 0, 0)]], [[0, 0, 0]]))
 
     def test_flags(self):
         for function, arguments in CALLS:
-            if function.__name__.startswith("is_") or function in (unseen, holds, enough, can_prove):
+            if function.__name__.startswith("is_") or function in (unseen, holds, enough, can_prove, exchanges):
                 self.assertIsInstance(function(LOAF, *arguments), bool)
+        for thing in odd_things() + [(), ((0,),)]:
+            self.assertIsInstance(is_web(3, thing), bool)
+            self.assertIsInstance(is_tree(3, thing), bool)
+        self.assertIsInstance(Live(LOAF).sees_now(()), bool)
 
     def test_judges_of_anything(self):
         for thing in odd_things() + [nested(0, deep) for deep in range(41)] + [nested((0, 0, 0), 38)]:
@@ -124,7 +161,12 @@ class GeneralTest(unittest.TestCase):
                          lambda k: served(LOAF, (0, k)), lambda k: many_days(LOAF, k, 7),
                          lambda k: many_days(LOAF, 7, k), lambda k: day_at(LOAF, k, 0),
                          lambda k: day_at(LOAF, 3, k), lambda k: settled(LOAF, ((k,), 0)),
-                         lambda k: least_lies(LOAF, BOARD, ((0, 0), (0, k))), lambda k: many_with(LOAF, ((), k))):
+                         lambda k: least_lies(LOAF, BOARD, ((0, 0), (0, k))), lambda k: many_with(LOAF, ((), k)),
+                         lambda k: is_web(k, ()), lambda k: is_tree(k, ()), lambda k: web_false(LOAF, k, ()),
+                         lambda k: web_false(LOAF, 3, ((k,),)), lambda k: exchanges(LOAF, k, ()),
+                         lambda k: shape_false(LOAF, k, (0,)), lambda k: shape_false(LOAF, 3, (0, k)),
+                         lambda k: Live(LOAF).step(0, k, 0), lambda k: Live(LOAF).closed(k),
+                         lambda k: Live(LOAF).sees_now((k,)), lambda k: Desk().tell(f"many a {k}")):
                 self.assertRaises(FalseError, call, number)
             self.assertIs(is_heights(LOAF, BOARD, CLAIMS, number, ((0, None), (1, 0), (2, 1))), number < 0)
 
@@ -201,8 +243,13 @@ class GeneralTest(unittest.TestCase):
                                     (can_prove, (day, 0)), (shown_places, (day,)), (settled, (((0,), 0),)),
                                     (indiscreet, ()), (is_indiscreet, ((day, 0),)), (unseen_days, (4, 1)),
                                     (coloured, ((0, 1, 2, 3),)), (chained, (SIXTY_ONE,)),
-                                    (read_day, ("last 0\n",))]:
+                                    (read_day, ("last 0\n",)), (office_text, ()), (web_false, (1, ((0,),))),
+                                    (exchanges, (1, ((0,),))), (shape_false, (1, (0,)))]:
             function(SIXTY_ONE, *arguments)
+        live = Live(SIXTY_ONE)
+        live.step(3, 3, 3)
+        live.trying(lambda tried: [tried.step(0, 0, 0), tried.wrong(), tried.ways_on(), tried.sees_now((0,)),
+                                   tried.sees_now(()), tried.closed(3), tried.copy(), tried.so_far(), tried.back()])
 
 
 if __name__ == "__main__":

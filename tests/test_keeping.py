@@ -8,9 +8,9 @@ from falsedays.errors import NoDay, NoNumber, NoSlips, NotSure, NoWorths, TooMan
 from falsedays.keeping import is_sure, keeps, most_kept, served, unseen_days
 from falsedays.offices import Office, is_true
 from falsedays.tales import unseen
-from tests.helpers import (FORKED, HUNG_UP, LOAF, NEVER, NO_DAYS, NOBODY, SIXTY, SIXTY_ONE, all_days, echo_office,
-                           odd_things, slow_board, slow_is_sure, slow_is_true, slow_true_days, slow_unseen,
-                           small_offices, twisted, wide_office)
+from tests.helpers import (FORKED, HUNG_UP, JUST_2000, JUST_2001, LOAF, NEVER, NO_DAYS, NOBODY, SIXTY, SIXTY_ONE,
+                           all_days, echo_office, odd_things, slow_board, slow_is_sure, slow_is_true, slow_true_days,
+                           slow_unseen, small_offices, twisted, wide_office)
 
 BOTH = (((1, 0, 0), (1, 0, 0)), 0)
 # One slip tells what the next one gets; of two standings each tells another slip, or both tell the same.
@@ -21,11 +21,6 @@ TWINS = Office((2, 2, 1), (((0, 1, 0, 1), (0, 1, 0, 2), (1, 0, 0, 0)), ((0, 1, 0
 UNLIKE = [Office((1, 2, 1), (((0, 0, 0, 0), (0, 0, 0, 1)), ((0, 1, 0, 0),)), ((0,), (0,))),
           Office((1, 1, 2), (((0, 0, 0, 0), (0, 0, 0, 1)), ((0, 0, 1, 0),)), ((0,), (0,))),
           Office((1, 1, 2), (((0, 0, 0, 0), (0, 0, 0, 1)), ((0, 0, 0, 0),)), ((0,), (1,)))]
-# Just 2000, and just 2001, false days of six people are unseen by each two neighbours.
-JUST_2000 = Office((3, 2, 1), (((0, 0, 0, 1), (1, 1, 0, 2), (2, 1, 0, 0)), ((0, 0, 0, 2), (1, 0, 0, 1), (2, 0, 0, 1)),
-                               ((0, 0, 0, 2), (1, 1, 0, 1), (2, 1, 0, 1))), ((0,),) * 3)
-JUST_2001 = Office((3, 2, 1), (((0, 0, 0, 2), (1, 0, 0, 1), (2, 1, 0, 2)), ((0, 1, 0, 1), (1, 1, 0, 2), (2, 0, 0, 1)),
-                               ((0, 0, 0, 1), (1, 1, 0, 1), (2, 0, 0, 0))), ((0,),) * 3)
 # Just 2000 days of six people, 64 true ones among them, look true to each one alone.
 ALL_2000 = Office((2, 3, 1), (((0, 0, 0, 1), (1, 0, 0, 1)), ((0, 0, 0, 2), (1, 1, 0, 1)), ((0, 2, 0, 1), (1, 2, 0, 0))),
                   ((0,),) * 3)

@@ -20,7 +20,7 @@ setdefault split splitlines startswith strip update upper values zfill bit_lengt
 BARRED = set("""register mro elements open input law version_info with_traceback add_note type typing enum Enum Flag
 Generic Protocol ABC namedtuple NamedTuple global eval exec exit gc dir vars globals locals compile""".split())
 STATEMENTS = (ast.Global, ast.AsyncFunctionDef, ast.Import, ast.Yield, ast.YieldFrom, ast.Await, ast.GeneratorExp,
-              ast.Lambda, ast.Try, ast.With, ast.Match, ast.NamedExpr, ast.Starred, ast.Set, ast.Nonlocal)
+              ast.Lambda, ast.With, ast.Match, ast.NamedExpr, ast.Starred, ast.Set, ast.Nonlocal)
 PLAIN = (ast.Constant, ast.Tuple, ast.List, ast.Dict, ast.Name, ast.expr_context, ast.BinOp, ast.operator, ast.UnaryOp,
          ast.unaryop)
 INTERFACE = {
@@ -31,7 +31,10 @@ INTERFACE = {
     "proving": "forging is_forging can_prove shown_places settled indiscreet is_indiscreet",
     "keeping": "is_sure served keeps most_kept unseen_days", "colours": "coloured good_colours",
     "claims": "least_lies heights is_heights surely_lying convicting", "chains": "chained same_days",
-    "counting": "many_days day_at day_number many_with", "rules": "read_rule", "reading": "read_office read_day"}
+    "counting": "many_days day_at day_number many_with", "rules": "read_rule", "reading": "read_office read_day",
+    "live": "Live", "texts": "office_text day_text", "desk": "Desk",
+    "webs": "is_web is_tree exchanges web_false shape_false"}
+CLASSES = {"Live": "step so_far wrong sees_now ways_on closed back depth copy trying", "Desk": "tell undoable"}
 
 
 def package_files():
@@ -66,6 +69,15 @@ class LanguageTest(unittest.TestCase):
             here = {node.name for node in tree_of(name + ".py").body
                     if isinstance(node, (ast.FunctionDef, ast.ClassDef))}
             self.assertLessEqual(set(words.split()), here)
+
+    def test_methods_stand_in_their_classes(self):
+        there = {}
+        for name in package_files():
+            for node in tree_of(name).body:
+                if isinstance(node, ast.ClassDef):
+                    there[node.name] = {part.name for part in node.body if isinstance(part, ast.FunctionDef)}
+        for name, words in CLASSES.items():
+            self.assertLessEqual(set(words.split()), there[name])
 
     def test_module_level(self):
         for name in package_files():
@@ -119,6 +131,12 @@ class LanguageTest(unittest.TestCase):
                     if node.name.startswith("__"):
                         self.assertIn(node.name, ("__init__", "__eq__"))
                 self.assertNotIsInstance(node, STATEMENTS, name)
+                if isinstance(node, ast.Try):
+                    # What stands in a finally puts back what was kept in a name, no more.
+                    self.assertEqual((node.handlers, node.orelse), ([], []))
+                    for part in node.finalbody:
+                        self.assertIsInstance(part, ast.Assign, name)
+                        self.assertIsInstance(part.value, ast.Name, name)
                 if isinstance(node, ast.Constant):
                     self.assertIn(type(node.value), (int, str, bool, type(None)))
                     self.assertFalse(isinstance(node.value, str) and ("__" in node.value or chr(37) in node.value))

@@ -3,30 +3,17 @@
 import re
 import unittest
 
-from falsedays.errors import BadOffice, BadText, FalseError, NoDay
+from falsedays.errors import BadOffice, BadText, NoDay
 from falsedays.offices import Office, is_day
 from falsedays.reading import read_day, read_office
-from tests.helpers import FORKED, HUNG_UP, LOAF, NEVER, NOBODY, SIXTY, SIXTY_ONE, echo_office, small_offices
-from tests.texts import changed_texts, no_strings
+from tests.helpers import (FORKED, HUNG_UP, LOAF, NEVER, NOBODY, SIXTY, SIXTY_ONE, echo_office, outcome,
+                           small_offices)
+from tests.texts import changed_texts, no_strings, text_of, text_of_day
 
 LOAF_TEXT = ("office 2 2 1\nat 0\nmove 0 1 0 0\nmove 1 0 0 1\ncloses 0\n"
              "at 1\nmove 0 1 0 1\nmove 1 1 0 1\ncloses 0\n")
 DAY_TEXT = "step 1 0 0\nstep 1 1 0\nlast 0\n"
 NUMBER = "(?:0|[1-9][0-9]{0,8})"
-
-
-def text_of(office):
-    """The text of an office by the words of 13.1."""
-    lines = ["office " + " ".join(map(str, office.sizes))]
-    for at, (moves, lasts) in enumerate(zip(office.moves, office.closings)):
-        lines.append(f"at {at}")
-        lines += ["move " + " ".join(map(str, move)) for move in moves]
-        lines.append(" ".join(["closes"] + [str(mark) for mark in lasts]))
-    return "".join(line + "\n" for line in lines)
-
-
-def text_of_day(day):
-    return "".join(f"step {slip} {answer} {mark}\n" for slip, answer, mark in day[0]) + f"last {day[1]}\n"
 
 
 def numbers(line):
@@ -73,14 +60,6 @@ def slow_read_day(text):
     if last is None or lines[-1]:
         return len(lines)
     return tuple(steps), last
-
-
-def outcome(function, *arguments):
-    """What a call gives, or its error."""
-    try:
-        return function(*arguments)
-    except FalseError as error:
-        return type(error), tuple(vars(error).values())
 
 
 def slow_office_outcome(text):

@@ -1,4 +1,4 @@
-"""What the tests of texts share: texts with one spot changed, and things that are no texts."""
+"""What the tests of texts share: texts by the document, texts with one spot changed, things that are no texts."""
 
 from tests.helpers import odd_things
 
@@ -8,6 +8,20 @@ last""".split()
 OTHER_LINES = ["fi", "done", "else", "or", "choose", "each", "close", "end", "hang 0", "tell 0", "slip 0", "put a 0",
                "if a 0", "cell q 2", "office 1 1 1", "at 0", "at 1", "closes", "closes 0", "move 0 0 0 0", "last 0",
                "step 0 0 0"]
+
+
+def text_of(office):
+    """The text of an office by the words of 13.1."""
+    lines = ["office " + " ".join(map(str, office.sizes))]
+    for at, (moves, lasts) in enumerate(zip(office.moves, office.closings)):
+        lines.append(f"at {at}")
+        lines += ["move " + " ".join(map(str, move)) for move in moves]
+        lines.append(" ".join(["closes"] + [str(mark) for mark in lasts]))
+    return "".join(line + "\n" for line in lines)
+
+
+def text_of_day(day):
+    return "".join(f"step {slip} {answer} {mark}\n" for slip, answer, mark in day[0]) + f"last {day[1]}\n"
 
 
 def no_strings():
