@@ -1,8 +1,8 @@
 """What a clerk can keep back unseen, where the slips of people make one true day."""
 
 from falsedays.errors import NoDay, NoNumber, NoSlips, NotSure, NoWorths
-from falsedays.kinds import is_between, is_tuple_of
-from falsedays.offices import MOST_DAYS, MOST_LISTED, is_day
+from falsedays.kinds import are_between, is_between, is_tuple_of
+from falsedays.offices import MOST_DAYS, MOST_LISTED, are_slips, is_day
 from falsedays.readers import reader
 from falsedays.windows import days_with_tales
 
@@ -44,14 +44,14 @@ def served_day(moves, closings, slips):
 def served(office, slips):
     """The true day of some slips."""
     moves, closings = sure_reader(office)
-    if not isinstance(slips, tuple) or not all([is_between(slip, 0, office.sizes[0] - 1) for slip in slips]):
+    if not are_slips(office, slips):
         raise NoSlips()
     return served_day(moves, closings, slips)
 
 
 def check_worths(office, worths):
     """Raises NoWorths for what is no tuple with a worth for each answer."""
-    if not is_tuple_of(worths, office.sizes[1]) or not all([is_between(worth, 0, MOST_WORTH) for worth in worths]):
+    if not is_tuple_of(worths, office.sizes[1]) or not are_between(worths, 0, MOST_WORTH):
         raise NoWorths()
 
 

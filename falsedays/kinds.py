@@ -16,6 +16,11 @@ def is_tuple_of(thing, many):
     return isinstance(thing, tuple) and len(thing) == many
 
 
+def are_between(thing, low, high):
+    """Whether a thing is a tuple of integers from low to high."""
+    return isinstance(thing, tuple) and all([is_between(part, low, high) for part in thing])
+
+
 def fits(thing, sizes):
     """Whether a thing is a tuple with an integer for each size, from 0 on and below it."""
     if not is_tuple_of(thing, len(sizes)):
@@ -35,9 +40,7 @@ def is_rising(row):
 
 def is_lot_below(thing, size):
     """Whether a thing is an ascending tuple of unlike integers, from 0 on and below the size."""
-    if not isinstance(thing, tuple):
-        return False
-    return all([is_between(part, 0, size - 1) for part in thing]) and is_rising(thing)
+    return are_between(thing, 0, size - 1) and is_rising(thing)
 
 
 def is_rising_fit(thing, sizes):

@@ -1,7 +1,7 @@
 """Offices and their days: who is served how, and which days are true."""
 
 from falsedays.errors import BadOffice, NoDay, NoNumber, TooMany
-from falsedays.kinds import all_fit, is_between, is_lot_below, is_rising_fit, is_tuple_of
+from falsedays.kinds import all_fit, are_between, is_between, is_lot_below, is_rising_fit, is_tuple_of
 from falsedays.walks import BEGIN, behind, closing_ever, closing_with, lasts_of, table, ways_on
 
 MOST_SIZE = 4
@@ -41,7 +41,7 @@ def made_office(sizes, moves, closings):
 
 def are_sizes(thing):
     """Whether a thing is a triple of integers that are sizes."""
-    return is_tuple_of(thing, 3) and all([is_between(size, 1, MOST_SIZE) for size in thing])
+    return is_tuple_of(thing, 3) and are_between(thing, 1, MOST_SIZE)
 
 
 def are_moves(sizes, thing):
@@ -69,9 +69,12 @@ def is_day(office, thing):
 
 def is_board(office, thing):
     """Whether a thing is a board of the office."""
-    if not is_tuple_of(thing, 2) or not isinstance(thing[0], tuple):
-        return False
-    return all([is_mark(office, mark) for mark in thing[0]]) and is_mark(office, thing[1])
+    return is_tuple_of(thing, 2) and are_between(thing[0], 0, office.sizes[2] - 1) and is_mark(office, thing[1])
+
+
+def are_slips(office, thing):
+    """Whether a thing is a tuple of slips of the office."""
+    return are_between(thing, 0, office.sizes[0] - 1)
 
 
 def notes(office, day):

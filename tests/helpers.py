@@ -8,6 +8,7 @@ from falsedays.errors import BadText, FalseError, NoDay
 from falsedays.live import Live
 from falsedays.offices import Office
 from falsedays.readers import reader
+from falsedays.shop import Shop
 
 LOAF = Office((2, 2, 1), (((0, 1, 0, 0), (1, 0, 0, 1)), ((0, 1, 0, 1), (1, 1, 0, 1))), ((0,), (0,)))
 HUNG_UP = Office((2, 1, 2), (((0, 0, 0, 0), (1, 0, 1, 0)),), ((0,),))
@@ -118,7 +119,7 @@ def odd_things():
             [()], [(0, 0)], {}, {0: 0}, range(2), slice(0, 1), Ellipsis, NotImplemented, object(), int, tuple, len,
             nested(0, 40), nested((), 39), nested({"a": None}, 38), ((), (), ()), (None,), (True,), ("0",), (b"",),
             (-1,), ((),), ([],), ({},), (0, None), ((0, 0), None), (((0, 0, 0),), "0"), memoryview(b"ab"), iter([0]),
-            (x for x in ()), {}.keys(), LOAF, (LOAF, LOAF), Live(LOAF), (Desk(),), NoDay(), BadText(0), NoDay, Office, lambda: 0,
+            (x for x in ()), {}.keys(), LOAF, (LOAF, LOAF), Live(LOAF), (Desk(),), Shop(LOAF), NoDay(), BadText(0), NoDay, Office, lambda: 0,
             tuple([None] * 9999)]
 
 

@@ -6,23 +6,29 @@ import unittest
 from falsedays.alone import is_learning, learning, left
 from falsedays.chains import chained, same_days
 from falsedays.claims import convicting, heights, is_heights, least_lies, surely_lying
+from falsedays.clerks import caught, led
 from falsedays.colours import coloured, good_colours
 from falsedays.counting import day_at, day_number, many_days, many_with
 from falsedays.desk import Desk
-from falsedays.errors import FalseError
+from falsedays.errors import (FalseError, NoBoard, NoClaims, NoColours, NoDay, NoFact, NoLine, NoLot, NoMark, NoMove,
+                              NoNote, NoNumber, NoPrices, NoShape, NoSlips, NoStanding, NoStep, NoSteps, NotWhole,
+                              NoWeb, NoWorths, TooMany)
 from falsedays.facts import holds, is_fact, known
 from falsedays.keeping import is_sure, keeps, most_kept, served, unseen_days
 from falsedays.live import Live
+from falsedays.merging import merged, rule_text
 from falsedays.neighbours import (crossing, enough, is_crossing, is_paper, is_round, least_k, paper, round_of)
 from falsedays.offices import Office, board, is_day, is_true, notes, some_true, true_days
 from falsedays.proving import (can_prove, forging, indiscreet, is_forging, is_indiscreet, settled, shown_places)
 from falsedays.readers import reader, stand
 from falsedays.reading import read_day, read_office
 from falsedays.rules import read_rule
+from falsedays.shares import cheapest_lot, least_proofs, most_proofs, shares
+from falsedays.shop import Shop
 from falsedays.tales import is_tale, least_tale, seeing, tale, unseen
 from falsedays.texts import day_text, office_text
 from falsedays.webs import exchanges, is_tree, is_web, shape_false, web_false
-from tests.helpers import (FORKED, HUNG_UP, LOAF, SIXTY_ONE, clock_office, echo_office, nested, odd_things,
+from tests.helpers import (FORKED, HUNG_UP, LOAF, SIXTY, SIXTY_ONE, clock_office, echo_office, nested, odd_things,
                            slow_is_crossing, slow_is_round, slow_is_true, small_offices, wide_office)
 
 DAY = (((1, 0, 0), (1, 0, 0)), 0)
@@ -31,6 +37,15 @@ STEPS = ((0, 1, 0), (1, 0, 0))
 TRUE_DAY = (STEPS, 0)
 BOARD = ((0, 0), 0)
 CLAIMS = ((1, 0), (1, 0))
+BOUNDS = ((0, None), (1, 0), (2, 1))
+WEB = ((0,), (1,))
+
+
+def greedy(slips, closing):
+    """A clerk of LOAF who gives everybody a loaf."""
+    return 0 if closing else (1 - slips[-1], 0)
+
+
 
 CALLS = [(is_day, (DAY,)), (is_true, (DAY,)), (notes, (DAY,)), (board, (DAY,)), (true_days, (3,)), (some_true, (9,)),
          (reader, ()), (stand, (STEPS,)), (tale, (DAY, (0,))), (least_tale, (DAY, (0,))), (is_tale, (DAY, (0,), DAY)),
@@ -41,11 +56,48 @@ CALLS = [(is_day, (DAY,)), (is_true, (DAY,)), (notes, (DAY,)), (board, (DAY,)), 
          (settled, (BOARD,)), (indiscreet, ()), (is_indiscreet, (DAY,)), (is_sure, ()), (served, ((0, 1, 1),)),
          (keeps, ((5, 0), DAY)), (most_kept, ((5, 0), 1, 3)), (unseen_days, (1, 3)), (coloured, ((0,),)),
          (good_colours, (1,)), (least_lies, (BOARD, CLAIMS)), (heights, (BOARD, CLAIMS)),
-         (is_heights, (BOARD, CLAIMS, 1, ((0, None), (1, 0), (2, 1)))), (surely_lying, (BOARD, CLAIMS)),
+         (is_heights, (BOARD, CLAIMS, 1, BOUNDS)), (surely_lying, (BOARD, CLAIMS)),
          (convicting, (BOARD, CLAIMS)), (chained, (HUNG_UP,)), (same_days, (LOAF,)), (many_days, (9, 100)),
          (day_at, (5, 7)), (day_number, (TRUE_DAY,)), (many_with, (BOARD,)), (read_day, ("step 1 0 0\nlast 0\n",)),
-         (office_text, ()), (web_false, (2, ((0,), (1,)))), (exchanges, (2, ((0,), (1,)))), (shape_false, (2, (0,))),
-         (Live, ())]
+         (office_text, ()), (web_false, (2, WEB)), (exchanges, (2, WEB)), (shape_false, (2, (0,))), (Live, ()),
+         (led, (greedy, (1, 1))), (caught, (greedy, 3)), (shares, (1, 2)), (most_proofs, (2,)), (least_proofs, (2,)),
+         (cheapest_lot, (DAY, (3, 4))), (merged, ()), (rule_text, ()), (Shop, ())]
+# Right arguments, and for each what is raised in the place of which wrong one: in an order in which each is met alone.
+# None stands for a judge, False for an argument that nothing is said of.
+NAMED = [(is_day, (DAY,), (None,)), (is_true, (DAY,), (None,)), (notes, (DAY,), (NoDay,)), (board, (DAY,), (NoDay,)),
+         (true_days, (3,), (NoNumber,)), (some_true, (9,), (NoNumber,)), (stand, (STEPS,), (NoSteps,)),
+         (tale, (DAY, (0,)), (NoDay, NoLot)), (least_tale, (DAY, (0,)), (NoDay, NoLot)),
+         (is_tale, (DAY, (0,), DAY), (NoDay, NoLot, None)), (unseen, (DAY, 1), (NoDay, NoNumber)),
+         (seeing, (DAY,), (NoDay,)), (is_fact, (FACT,), (None,)), (holds, (FACT, DAY), (NoFact, NoDay)),
+         (known, (FACT, DAY, ()), (NoFact, NoDay, NoLot)), (enough, (1,), (NoNumber,)), (crossing, (2,), (NoNumber,)),
+         (is_crossing, (1, DAY), (NoNumber, None)), (is_round, (DAY,), (None,)), (paper, (1,), (NoNumber,)),
+         (is_paper, (1, DAY), (NoNumber, None)), (left, (BOARD, 0, (1, 0)), (NoBoard, NoNumber, NoNote)),
+         (is_learning, (DAY,), (None,)), (is_forging, (DAY,), (None,)),
+         (can_prove, (TRUE_DAY, 0), (NoDay, NoNumber)), (shown_places, (TRUE_DAY,), (NoDay,)),
+         (settled, (BOARD,), (NoBoard,)), (is_indiscreet, (DAY,), (None,)), (served, ((0, 1, 1),), (NoSlips,)),
+         (keeps, ((5, 0), DAY), (NoWorths, NoDay)),
+         (most_kept, ((5, 0), 1, 3), (NoWorths, NoNumber, NoNumber)), (unseen_days, (1, 3), (NoNumber, NoNumber)),
+         (coloured, ((0,),), (NoColours,)), (good_colours, (1,), (NoNumber,)),
+         (least_lies, (BOARD, CLAIMS), (NoBoard, NoClaims)), (heights, (BOARD, CLAIMS), (NoBoard, NoClaims)),
+         (is_heights, (BOARD, CLAIMS, 1, BOUNDS), (NoBoard, NoClaims, NoNumber, None)),
+         (surely_lying, (BOARD, CLAIMS), (NoBoard, NoClaims)), (convicting, (BOARD, CLAIMS), (NoBoard, NoClaims)),
+         (many_days, (9, 100), (NoNumber, NoNumber)), (day_at, (5, 7), (NoNumber, NoNumber)),
+         (day_number, (TRUE_DAY,), (NoDay,)), (many_with, (BOARD,), (NoBoard,)),
+         (web_false, (2, WEB), (NoNumber, NoWeb)), (exchanges, (2, WEB), (NoNumber, NoWeb)),
+         (shape_false, (2, (0,)), (NoNumber, NoShape)), (led, (greedy, (1, 1)), (False, NoSlips)),
+         (caught, (greedy, 3), (False, NoNumber)), (shares, (1, 2), (NoNumber, NoNumber)),
+         (most_proofs, (2,), (NoNumber,)), (least_proofs, (2,), (NoNumber,)),
+         (cheapest_lot, (DAY, (3, 4)), (NoDay, NoPrices)),
+         (lambda office, thing: is_web(2, thing), (WEB,), (None,)),
+         (lambda office, thing: is_tree(2, thing), (WEB,), (None,)),
+         (lambda office, *things: Live(office).step(*things), (1, 0, 0), (NoStep, NoStep, NoStep)),
+         (lambda office, thing: Live(office).sees_now(thing), ((),), (NoLot,)),
+         (lambda office, thing: Live(office).closed(thing), (0,), (NoMark,)),
+         (lambda office, thing: Desk().tell(thing), ("names",), (NoLine,)),
+         (lambda office, *things: Shop(office).put(*things), (0, 1, 1, 0, 1),
+          (NoStanding, NoStep, NoStep, NoStep, NoStanding)),
+         (lambda office, *things: Shop(office).strike(*things), (0, 0), (NoStanding, NoMove)),
+         (lambda office, *things: Shop(office).shuts_not(*things), (0, 0), (NoStanding, NoMark))]
 # Those that always return a list; here with arguments for which it is not empty.
 LISTS = [(true_days, (2,)), (seeing, (DAY,)), (unseen_days, (1, 2)), (convicting, (BOARD, CLAIMS)),
          (settled, (((0,), 0),)), (good_colours, (200,))]
@@ -58,9 +110,10 @@ class GeneralTest(unittest.TestCase):
             office = Office(LOAF.sizes, LOAF.moves, LOAF.closings)
             before = copy.deepcopy(arguments)
             first = function(office, *arguments)
-            again = function(office, *arguments)
-            if function is not Live:
+            again = function(Office(LOAF.sizes, LOAF.moves, LOAF.closings), *arguments)
+            if function not in (Live, Shop):
                 self.assertEqual(first, again, function)
+                self.assertEqual(function(office, *arguments), first, function)
             self.assertEqual(arguments, before)
             self.assertTrue(office == LOAF)
             self.assertEqual(sorted(vars(office)), ["closings", "moves", "sizes"])
@@ -130,6 +183,34 @@ class GeneralTest(unittest.TestCase):
             self.assertIsInstance(is_tree(3, thing), bool)
         self.assertIsInstance(Live(LOAF).sees_now(()), bool)
 
+    def test_odd_things_at_each_argument(self):
+        things = odd_things() + [nested(0, 40), nested((0, 0), 38), nested({0: [()]}, 37), [[]] * 4999, ((),) * 9998,
+                                 {at: None for at in range(4999)}, tuple([[None]] * 4999), "x" * 9999]
+        for function, arguments, errors in NAMED:
+            right = function(LOAF, *arguments)
+            for at, error in enumerate(errors):
+                for thing in things:
+                    told = arguments[:at] + (thing,) + arguments[at + 1:]
+                    if error is None:
+                        self.assertIsInstance(function(LOAF, *told), bool)
+                    elif error is not False and not self.fits_there(function, error, thing):
+                        with self.assertRaises(error) as told_error:
+                            function(LOAF, *told)
+                        self.assertEqual(type(told_error.exception), error)
+                        # Of several the first one that is named is raised, whatever stands behind.
+                        wrong = tuple(thing if place >= at and errors[place] else part
+                                      for place, part in enumerate(arguments))
+                        self.assertRaises(error, function, LOAF, *wrong)
+            if isinstance(right, (bool, int, tuple, list)):
+                self.assertEqual(function(LOAF, *arguments), right)
+
+    def fits_there(self, function, error, thing):
+        """Whether an odd thing is no wrong one here: some numbers, the empty tuple and tuples of it may be right."""
+        if type(thing) is int:
+            return function in (is_heights, many_days) and error is NoNumber
+        empty = thing in ((), ((),), ((), (), ())) or thing == ((),) * 9998
+        return empty and error in (NoSteps, NoLot, NoSlips, NoWeb)
+
     def test_judges_of_anything(self):
         for thing in odd_things() + [nested(0, deep) for deep in range(41)] + [nested((0, 0, 0), 38)]:
             for office in (LOAF, HUNG_UP, FORKED):
@@ -166,7 +247,13 @@ class GeneralTest(unittest.TestCase):
                          lambda k: web_false(LOAF, 3, ((k,),)), lambda k: exchanges(LOAF, k, ()),
                          lambda k: shape_false(LOAF, k, (0,)), lambda k: shape_false(LOAF, 3, (0, k)),
                          lambda k: Live(LOAF).step(0, k, 0), lambda k: Live(LOAF).closed(k),
-                         lambda k: Live(LOAF).sees_now((k,)), lambda k: Desk().tell(f"many a {k}")):
+                         lambda k: Live(LOAF).sees_now((k,)), lambda k: Desk().tell(f"many a {k}"),
+                         lambda k: led(LOAF, greedy, (0, k)), lambda k: caught(LOAF, greedy, k),
+                         lambda k: led(LOAF, lambda slips, closing: k, ()), lambda k: shares(LOAF, k, 1),
+                         lambda k: shares(LOAF, 1, k), lambda k: most_proofs(LOAF, k),
+                         lambda k: least_proofs(LOAF, k), lambda k: cheapest_lot(LOAF, DAY, (0, k)),
+                         lambda k: Shop(LOAF).put(0, 0, 0, 0, k), lambda k: Shop(LOAF).strike(k, 0),
+                         lambda k: Shop(LOAF).strike(0, k), lambda k: Shop(LOAF).shuts(0, k)):
                 self.assertRaises(FalseError, call, number)
             self.assertIs(is_heights(LOAF, BOARD, CLAIMS, number, ((0, None), (1, 0), (2, 1))), number < 0)
 
@@ -244,8 +331,15 @@ class GeneralTest(unittest.TestCase):
                                     (indiscreet, ()), (is_indiscreet, ((day, 0),)), (unseen_days, (4, 1)),
                                     (coloured, ((0, 1, 2, 3),)), (chained, (SIXTY_ONE,)),
                                     (read_day, ("last 0\n",)), (office_text, ()), (web_false, (1, ((0,),))),
-                                    (exchanges, (1, ((0,),))), (shape_false, (1, (0,)))]:
+                                    (exchanges, (1, ((0,),))), (shape_false, (1, (0,))), (led, (greedy, ())),
+                                    (led, (lambda slips, closing: 3 if closing else (3, 3), (3, 3))),
+                                    (caught, (lambda slips, closing: 3 if closing else (3, 3), 2)),
+                                    (shares, (4, 1)), (most_proofs, (1,)), (least_proofs, (1,)),
+                                    (cheapest_lot, (day, (0,)))]:
             function(SIXTY_ONE, *arguments)
+        self.assertRaises(NotWhole, rule_text, SIXTY)
+        for function in (merged, rule_text):
+            self.assertRaises(TooMany, function, SIXTY_ONE)
         live = Live(SIXTY_ONE)
         live.step(3, 3, 3)
         live.trying(lambda tried: [tried.step(0, 0, 0), tried.wrong(), tried.ways_on(), tried.sees_now((0,)),

@@ -33,8 +33,11 @@ INTERFACE = {
     "claims": "least_lies heights is_heights surely_lying convicting", "chains": "chained same_days",
     "counting": "many_days day_at day_number many_with", "rules": "read_rule", "reading": "read_office read_day",
     "live": "Live", "texts": "office_text day_text", "desk": "Desk",
-    "webs": "is_web is_tree exchanges web_false shape_false"}
-CLASSES = {"Live": "step so_far wrong sees_now ways_on closed back depth copy trying", "Desk": "tell undoable"}
+    "webs": "is_web is_tree exchanges web_false shape_false", "clerks": "led caught", "shop": "Shop",
+    "shares": "shares most_proofs least_proofs cheapest_lot", "merging": "merged rule_text"}
+CLASSES = {"Office": "__init__ __eq__", "Live": "step so_far wrong sees_now ways_on closed back depth copy trying",
+           "Desk": "tell undoable",
+           "Shop": "put strike add shuts shuts_not office least back depth copy trying"}
 
 
 def package_files():
