@@ -1,99 +1,124 @@
 """Days of which each of some lots has a tale.
 
-They are gone through place by place. A state has for each lot the set of standings to which
-its tales may have come: those of a lot go by the day's own step at a place of the lot, and
-elsewhere by any step with its mark. A begin is kept only if some day goes on from it, so no
-more are kept than there may be days.
+All true days of so many people are at hand: those of a board are the tales that there can be
+for its days. A day is made place by place, and for each lot the tales that it still has are
+kept. A begin is kept only if some day goes on from it, so no more are kept than there may be
+days.
 """
 
 from falsedays.errors import TooMany
-from falsedays.offices import MOST_DAYS, closing_in
-from falsedays.walks import BEGIN, after, closing_with, mark_table, table, ways_on
+from falsedays.offices import MOST_DAYS, number_of_days
+from falsedays.walks import all_steps, steps_with_mark
 
 
-class LotWalks:
-    """The states of days of so many people, and the steps that lead from them to a day."""
+class BoardTales:
+    """The true days of a board, and the days of which each of some lots has one of them as its tale.
 
-    def __init__(self, office, many, lots):
-        self.sizes = office.sizes
-        self.many = many
+    Sets of these true days are kept as integers with a bit for each of them.
+    having: for each place a dict from steps to the sets of the true days that have them there.
+    choices: for each place the steps that a day may have there.
+    order: the places in the order in which they are gone through.
+    """
+
+    def __init__(self, office, true_ones, lots, order):
         self.lots = lots
-        self.rows = table(office)
-        self.by_mark = mark_table(self.rows)
-        # For each place, and behind the last one, the standings from which so many steps lead to a closing.
-        self.goods = closing_in(office, many)[::-1]
-        self.closing = [closing_with(office, last) for last in range(office.sizes[2])]
-        self.begin = tuple([BEGIN & self.goods[0] for _ in lots])
+        self.order = order
+        self.last = true_ones[0][1]
+        self.having = [sets_by_step(true_ones, place) for place in range(len(order))]
+        self.choices = [self.choices_at(office, place, true_ones[0][0][place][2]) for place in range(len(order))]
+        self.begin = tuple([(1 << len(true_ones)) - 1 for _ in lots])
         self.leading = {}
 
-    def steps_from(self, place, state):
-        """The ascending list of the steps that may lead on from a state."""
-        for lot, group in zip(self.lots, state):
-            if place in lot:
-                return [step for step, _ in ways_on(self.rows, group)]
-        slips, answers, marks = self.sizes
-        alive = [mark for mark in range(marks) if 0 not in self.behind_step(place, state, (0, 0, mark))]
-        return [(slip, answer, mark) for slip in range(slips) for answer in range(answers) for mark in alive]
+    def choices_at(self, office, place, mark):
+        """The list of the steps that a day may have at a place: any with the mark where no lot has the place."""
+        if any([place in lot for lot in self.lots]):
+            return list(self.having[place])
+        return steps_with_mark(office, mark)
 
-    def behind_step(self, place, state, step):
-        """The state behind a step. Where a set of it is empty a lot sees the day."""
-        good = self.goods[place + 1]
-        further = []
-        for lot, group in zip(self.lots, state):
-            if place in lot:
-                further.append(after(self.rows, group, step) & good)
-            else:
-                further.append(after(self.by_mark, group, step[2]) & good)
-        return tuple(further)
+    def ways_on(self, at, state):
+        """The list of the steps that leave each lot a tale, each with the state behind it."""
+        place = self.order[at]
+        found = []
+        for step in self.choices[place]:
+            there = self.having[place].get(step, 0)
+            further = tuple([group & there if place in lot else group for lot, group in zip(self.lots, state)])
+            if 0 not in further:
+                found.append((step, further))
+        return found
 
-    def lasts(self, state):
-        """The ascending list of the last marks with which a tale of each lot may close."""
-        return [last for last, closing in enumerate(self.closing) if all([group & closing for group in state])]
-
-    def leads_on(self, place, state):
+    def leads_on(self, at, state):
         """Whether some day goes on from a state."""
-        if (place, state) not in self.leading:
-            self.leading[(place, state)] = self.is_leading(place, state)
-        return self.leading[(place, state)]
+        if (at, state) not in self.leading:
+            self.leading[(at, state)] = self.is_leading(at, state)
+        return self.leading[(at, state)]
 
-    def is_leading(self, place, state):
+    def is_leading(self, at, state):
         """Whether some day goes on from a state, found by going on."""
-        if 0 in state:
-            return False
-        if place == self.many:
-            return len(self.lasts(state)) > 0
-        for step in self.steps_from(place, state):
-            if self.leads_on(place + 1, self.behind_step(place, state, step)):
+        if at == len(self.order):
+            return True
+        for _, further in self.ways_on(at, state):
+            if self.leads_on(at + 1, further):
                 return True
         return False
 
-    def live_steps(self, place, state):
-        """The ascending list of the steps that lead from a state to a day, each with the state behind it."""
-        found = [(step, self.behind_step(place, state, step)) for step in self.steps_from(place, state)]
-        return [(step, further) for step, further in found if self.leads_on(place + 1, further)]
+    def days(self, most):
+        """The list of the days of the board of which each lot has a tale. Raises TooMany for more than most."""
+        begun = [((), self.begin)]
+        for at in range(len(self.order)):
+            longer = []
+            for steps, state in begun:
+                longer.extend([(steps + (step,), further) for step, further in self.ways_on(at, state)
+                               if self.leads_on(at + 1, further)])
+                if len(longer) > most:
+                    raise TooMany(MOST_DAYS)
+            begun = longer
+        return [(self.by_places(steps), self.last) for steps, _ in begun]
+
+    def by_places(self, steps):
+        """Steps in the order in which they were gone through, brought into that of their places."""
+        return tuple([step for _, step in sorted(list(zip(self.order, steps)))])
 
 
-def days_with_lot_tales(office, many, lots, most):
+def sets_by_step(days, place):
+    """For each step that some days have at a place the set of those that have it."""
+    found = {}
+    for number, (steps, _) in enumerate(days):
+        found[steps[place]] = found.get(steps[place], 0) | (1 << number)
+    return found
+
+
+def days_by_board(days):
+    """The list of the lists of the days of one board."""
+    found = {}
+    for steps, last in days:
+        marks = tuple([mark for _, _, mark in steps])
+        found.setdefault((marks, last), []).append((steps, last))
+    return list(found.values())
+
+
+def days_with_lot_tales(office, many, lots, true_ones):
     """The ascending list of all days of so many people of which each of some lots has a tale.
 
-    Raises TooMany(MOST_DAYS) if there are more than most.
+    Raises TooMany if more than MOST_DAYS of them are none of the true days, all of which are told.
     """
-    walks = LotWalks(office, many, lots)
-    begun = []
-    if walks.leads_on(0, walks.begin):
-        begun.append(((), walks.begin))
-    for place in range(many):
-        ways = {}
-        longer = []
-        for steps, state in begun:
-            if state not in ways:
-                ways[state] = walks.live_steps(place, state)
-            for step, further in ways[state]:
-                longer.append((steps + (step,), further))
-            if len(longer) > most:
-                raise TooMany(MOST_DAYS)
-        begun = longer
-    days = [(steps, last) for steps, state in begun for last in walks.lasts(state)]
-    if len(days) > most:
+    most = MOST_DAYS + len(true_ones)
+    if not lots:
+        return all_days(office, many, most)
+    # Where a place is in many lots they are at odds soonest.
+    order = [place for _, place in sorted([(-sum([1 for lot in lots if place in lot]), place)
+                                           for place in range(many)])]
+    days = []
+    for board_days in days_by_board(true_ones):
+        days.extend(BoardTales(office, board_days, lots, order).days(most - len(days)))
+    return sorted(days)
+
+
+def all_days(office, many, most):
+    """The ascending list of all days of so many people. Raises TooMany if there are more than most."""
+    if number_of_days(office, many) > most:
         raise TooMany(MOST_DAYS)
-    return days
+    rows = [()]
+    steps = all_steps(office)
+    for _ in range(many):
+        rows = [row + (step,) for row in rows for step in steps]
+    return [(row, last) for row in rows for last in range(office.sizes[2])]

@@ -4,16 +4,15 @@ from falsedays.clauses import rule_lines
 from falsedays.errors import NotWhole, TooMany
 from falsedays.offices import MOST_SIZE, MOST_STANDINGS, made_office
 from falsedays.readers import reader
-from falsedays.walks import BEGIN, live_standings
+from falsedays.walks import live_standings
 from falsedays.wording import closed_lines
 
 
 def merged(office):
     """The office with the same true days whose standings tell unlike rests, numbered as they are met."""
     moves, closings = reader(office)
+    # Where no true day leads on from the begin nothing is left of it but the one standing.
     live = live_standings(made_office(office.sizes, moves, closings))
-    if not live & BEGIN:
-        return made_office(office.sizes, ((),), ((),))
     ways = [{move[:3]: move[3] for move in row if (live >> move[3]) & 1} for row in moves]
     classes = classes_of(ways, closings)
     firsts = [0]

@@ -99,6 +99,15 @@ def is_true(office, thing):
     return bool(behind(table(office), steps) & closing_with(office, last))
 
 
+def number_of_days(office, many):
+    """The number of all days of so many people, true and false ones."""
+    slips, answers, marks = office.sizes
+    days = marks
+    for _ in range(many):
+        days = days * slips * answers * marks
+    return days
+
+
 def true_days(office, many):
     """The ascending list of all true days of so many people."""
     if not is_between(many, 0, MOST_LISTED):

@@ -4,7 +4,7 @@ from itertools import combinations
 from falsedays.errors import NoDay, NoPrices
 from falsedays.kinds import are_between, is_tuple_of
 from falsedays.keeping import unseen_days
-from falsedays.offices import board, is_day, true_days
+from falsedays.offices import board, is_day, number_of_days, true_days
 from falsedays.tales import holds_any, seeing
 
 MOST_PRICE = 99
@@ -14,11 +14,7 @@ def shares(office, k, many):
     """The numbers of all days of so many people, of the true ones, and of false ones unseen by each k neighbours."""
     with_tales = len(unseen_days(office, k, many))
     true_ones = len(true_days(office, many))
-    slips, answers, marks = office.sizes
-    days = marks
-    for _ in range(many):
-        days = days * slips * answers * marks
-    return days, true_ones, with_tales - true_ones
+    return number_of_days(office, many), true_ones, with_tales - true_ones
 
 
 def most_proofs(office, many):

@@ -29,17 +29,6 @@ def table(office):
     return rows
 
 
-def mark_table(rows):
-    """For each standing of a table a dict from marks to the sets to which steps with them lead."""
-    found = []
-    for row in rows:
-        by_mark = {}
-        for step, goals in row.items():
-            by_mark[step[2]] = by_mark.get(step[2], 0) | goals
-        found.append(by_mark)
-    return found
-
-
 def live_standings(office):
     """The set of the standings from which steps, perhaps none, lead to one that may close."""
     rows = table(office)
@@ -121,6 +110,12 @@ def closing_ever(office):
 def lasts_of(office, group):
     """The ascending tuple of the last marks with which a set closes."""
     return tuple(sorted({mark for standing in standings_in(group) for mark in office.closings[standing]}))
+
+
+def all_steps(office):
+    """The ascending list of all steps of an office."""
+    slips, answers, marks = office.sizes
+    return [(slip, answer, mark) for slip in range(slips) for answer in range(answers) for mark in range(marks)]
 
 
 def steps_with_mark(office, mark):

@@ -2,8 +2,8 @@
 
 from falsedays.errors import NoNumber, NoShape, NoTree, NoWeb
 from falsedays.kinds import is_between, is_lot_below
-from falsedays.lots import days_with_lot_tales
-from falsedays.offices import MOST_DAYS, MOST_LISTED, true_days
+from falsedays.lots import days_by_board, days_with_lot_tales
+from falsedays.offices import MOST_LISTED, true_days
 
 MOST_SHAPED = 4
 SHAPE_WIDTH = 6
@@ -83,10 +83,11 @@ def web_false(office, many, web):
 
 def least_false(office, many, lots):
     """The least false day of so many people that no lot sees, or None."""
-    true_ones = {day: True for day in true_days(office, many)}
+    true_ones = true_days(office, many)
+    there = {day: True for day in true_ones}
     # A tale of a lot is one of each lot within it, too.
-    for day in days_with_lot_tales(office, many, widest(lots), MOST_DAYS + len(true_ones)):
-        if day not in true_ones:
+    for day in days_with_lot_tales(office, many, widest(lots), true_ones):
+        if day not in there:
             return day
     return None
 
@@ -106,15 +107,6 @@ def exchanges(office, many, web):
             return False
         elder = joined_lot((elder, lot))
     return True
-
-
-def days_by_board(days):
-    """The list of the lists of the days of one board."""
-    found = {}
-    for steps, last in days:
-        marks = tuple([mark for _, _, mark in steps])
-        found.setdefault((marks, last), []).append((steps, last))
-    return list(found.values())
 
 
 def goes_together(days, elder, lot):

@@ -297,6 +297,64 @@ class WebFalseTest(unittest.TestCase):
         self.assertRaises(TooMany, web_false, office_of_days((1, 4001, 1), days[:2001]), 1, ())
         self.assertEqual(web_false(office_of_days((1, 4000, 1), days[1000:3000]), 1, ((),)), days[0])
 
+    def test_begins_that_lead_nowhere(self):
+        # A note that is not (0, 0) at an even place has tales with last mark 0 alone, at an odd place with 1 alone:
+        # so of all 9 ** 6 rows of notes only a few have tales for all.
+        notes = [(slip, answer) for slip in range(3) for answer in range(3)]
+        true = []
+        for place in range(6):
+            for note in notes[1:]:
+                steps = [(0, 0, 0)] * 6
+                steps[place] = note + (0,)
+                true.append((tuple(steps), place % 2))
+        office = office_of_days((3, 3, 2), true)
+        self.assertEqual(true_days(office, 6), sorted(true))
+        alone = tuple((place,) for place in range(6))
+        self.assertEqual(web_false(office, 6, alone), (((0, 0, 0),) * 6, 0))
+        self.assertEqual(shape_false(office, 6, (0,)), (((0, 0, 0),) * 6, 0))
+        self.assertEqual(len(unseen_days(office, 1, 6)), 2 * 9 ** 3)
+
+    def test_boards_that_lead_nowhere(self):
+        # Where the first note is not (0, 0) no tale of the first one has a mark 1.
+        notes = [(slip, answer) for slip in range(3) for answer in range(3)]
+        true = [((note + (0,),) + ((0, 0, 0),) * 5, 0) for note in notes[1:]]
+        true += [(((0, 0, 0), one + (1,), two + (0,), three + (0,), (0, 0, 0), (0, 0, 0)), 0)
+                 for one, two, three in product(notes, repeat=3)]
+        office = office_of_days((3, 3, 2), true)
+        self.assertIsNone(web_false(office, 6, ((0,), (1, 2, 3, 4, 5))))
+        self.assertIs(exchanges(office, 6, ((0,), (1, 2, 3, 4, 5))), True)
+        self.assertEqual(web_false(office, 6, ((0,), (1,), (2, 3, 4, 5))), None)
+        self.assertRaises(TooMany, web_false, office, 6, ((), (1, 2, 3, 4, 5)))
+
+    def test_lots_that_are_at_odds(self):
+        # By neighbours the notes of the first, the fourth, the fifth and the sixth one are alike: more than 2000
+        # rows of four notes look right so far, but for most of them the sixth one can have no note.
+        notes = [(slip, answer, 0) for slip in range(4) for answer in range(2)]
+        ring = tuple((place, place + 1) for place in range(5)) + ((0, 5),)
+        true = [((one, two, three, one, one, one), 0) for one, two, three in product(notes, repeat=3)]
+        office = office_of_days((4, 2, 1), true)
+        self.assertIsNone(web_false(office, 6, ring))
+        self.assertRaises(TooMany, web_false, office, 6, ring[:5])
+        few = [day for day in true if day[0][0] in notes[:4] and day[0][1] in notes[:4] and day[0][2] in notes[:4]]
+        self.assertEqual(web_false(office_of_days((4, 2, 1), few), 6, ring[:5]), ((notes[0],) * 3 + (notes[1],) * 3, 0))
+        true = [((one, two, three, four, one, one), 0) for one, two, three, four in product(notes[:6], repeat=4)]
+        self.assertIsNone(web_false(office_of_days((4, 2, 1), true), 6, ring))
+        self.assertRaises(TooMany, web_false, office_of_days((4, 2, 1), true), 6, ring[:5])
+
+    def test_too_many_on_two_boards(self):
+        # 12 ** 3 days of each board are unseen by each one alone.
+        notes = [(slip, answer, 0) for slip in range(4) for answer in range(3)]
+        true = {(tuple(note if at == place else notes[0] for at in range(3)), last)
+                for place in range(3) for note in notes for last in range(2)}
+        alone = ((0,), (1,), (2,))
+        one_board = [day for day in true if day[1] == 1]
+        right = ((notes[0], notes[1], notes[1]), 1)
+        self.assertEqual(web_false(office_of_days((4, 3, 2), one_board), 3, alone), right)
+        self.assertEqual(shape_false(office_of_days((4, 3, 2), one_board), 3, (0,)), right)
+        for call in (lambda: web_false(office_of_days((4, 3, 2), true), 3, alone),
+                     lambda: shape_false(office_of_days((4, 3, 2), true), 3, (0,))):
+            self.assertRaises(TooMany, call)
+
     def test_wrong_webs(self):
         for thing in odd_things() + [[()], [(0,)], ([0],), ((2,),), ((0, 0),), ((1, 0),), ((True,),), (0,), "()", 0]:
             if not slow_is_web(2, thing):
