@@ -104,13 +104,17 @@ def days_with_lot_tales(office, many, lots, true_ones):
     most = MOST_DAYS + len(true_ones)
     if not lots:
         return all_days(office, many, most)
-    # Where a place is in many lots they are at odds soonest.
-    order = [place for _, place in sorted([(-sum([1 for lot in lots if place in lot]), place)
-                                           for place in range(many)])]
+    order = those_of_most_lots_ahead(many, lots)
     days = []
     for board_days in days_by_board(true_ones):
         days.extend(BoardTales(office, board_days, lots, order).days(most - len(days)))
     return sorted(days)
+
+
+def those_of_most_lots_ahead(many, lots):
+    """The list of all places in an order in which lots that share places are at odds soon, if they are."""
+    ranked = [(-len([lot for lot in lots if place in lot]), place) for place in range(many)]
+    return [place for _, place in sorted(ranked)]
 
 
 def all_days(office, many, most):

@@ -19,14 +19,15 @@ def merged(office):
     standings = {classes[0]: 0}
     found = []
     while len(found) < len(firsts):
+        first = firsts[len(found)]
         row = []
-        for step, goal in ways[firsts[len(found)]].items():
+        for step, goal in ways[first].items():
             if classes[goal] not in standings:
                 standings[classes[goal]] = len(firsts)
                 firsts.append(goal)
             row.append(step + (standings[classes[goal]],))
         found.append(tuple(row))
-    return made_office(office.sizes, tuple(found), tuple([closings[first] for first in firsts]))
+    return made_office(office.sizes, tuple(found), tuple([closings[number] for number in firsts]))
 
 
 def classes_of(ways, closings):
